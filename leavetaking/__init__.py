@@ -1,0 +1,1 @@
+"""Leavetaking: what is sure of an evening at an inn."""

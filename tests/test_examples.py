@@ -1,0 +1,50 @@
+"""The examples of the interface, as they stand in the document."""
+
+import doctest
+import unittest
+
+EXAMPLES = {
+    "houses": """
+>>> from leavetaking.houses import House
+>>> house = House(["ada", "bob", "cleo"]).liking("bob", [1, 1, 5])
+>>> [house.taste("ada"), house.better("ada", "cleo"), house.better("bob", "ada"), house.depth("bob"), len(house)]
+[(3, 2, 1), ('ada', 'bob'), ('cleo',), 1, 3]
+""",
+    "standings": """
+>>> from leavetaking.houses import House
+>>> from leavetaking.standings import next_steps
+>>> next_steps(House(["ada", "bob"]), ["ada", "bob"], (2, ()))
+(('out', 'ada', 'ada'), ('out', 'bob', 'ada'))
+""",
+    "evenings": """
+>>> from leavetaking.houses import House
+>>> from leavetaking.evenings import evenings, row_of
+>>> [row_of(evening) for evening in evenings(House(["ada", "bob"]), ["ada", "bob"])]
+[(('ada', 'ada'), ('bob', 'bob')), (('bob', 'ada'), ('ada', 'bob')), (('ada', 'ada'), ('bob', 'bob'))]
+""",
+    "facts": """
+>>> from leavetaking.facts import contrary
+>>> [contrary(("before", ("in", "ada"), ("out", "bob"))), contrary(("chose", "ada", 2))]
+[('before', ('out', 'bob'), ('in', 'ada')), ('settled', 'ada', 2)]
+""",
+    "choices": """
+>>> from leavetaking.houses import House
+>>> from leavetaking.choices import choices
+>>> house = House(["ada", "bob"])
+>>> choices(house, ["bob", "ada"], ("hung", ("out", "bob"), 1, ["ada", "bob"]))
+((('before', ('in', 'ada'), ('out', 'bob')),), (('before', ('in', 'bob'), ('out', 'bob')), ('before', ('out', 'bob'), ('out', 'ada'))))
+>>> [choices(house, ["bob", "ada"], ("wore", "ada", "bob")), choices(house, ["bob", "ada"], ("spared", "ada", "bob"))]
+[((),), ()]
+""",
+}
+
+
+class Examples(unittest.TestCase):
+    def test_examples(self):
+        for word, text in EXAMPLES.items():
+            with self.subTest(word):
+                example = doctest.DocTestParser().get_doctest(text, {}, word, None, 0)
+                told = []
+                result = doctest.DocTestRunner(verbose=False).run(example, out=told.append)
+                self.assertEqual(result.failed, 0, "".join(told))
+                self.assertGreater(result.attempted, 1)
