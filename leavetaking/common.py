@@ -21,3 +21,8 @@ def picks(many, count):
         last = many - count + place
         found = [pick + (at,) for pick in found for at in range(pick[-1] + 1 if pick else 0, last + 1)]
     return found
+
+
+def different(row):
+    """The different items of the row, in the order in which they stand in it first."""
+    return tuple({item: True for item in row})

@@ -12,23 +12,28 @@ class Story:
     def __init__(self, house, book, facts=()):
         self.house = house
         self.book = own_book(house, book)
-        self.facts = own_facts(house, facts)
+        self._facts = own_facts(house, facts)
+
+    @property
+    def facts(self):
+        """The facts that are told, in order."""
+        return self._facts
 
     def told(self, fact):
         """The story with one more fact at the end."""
-        return Story(self.house, self.book, self.facts + (fact,))
+        return Story(self.house, self.book, self._facts + (fact,))
 
     def untold(self, index):
         """The story without the fact at this index."""
-        if not 0 <= index < len(self.facts):
+        if not 0 <= index < len(self._facts):
             raise BadNumber(index)
-        return Story(self.house, self.book, self.facts[:index] + self.facts[index + 1:])
+        return Story(self.house, self.book, self._facts[:index] + self._facts[index + 1:])
 
     @property
     def wearers(self):
         """For each guest the cloak in which the first fact `wore` about it says that it left, or None."""
         cloaks = {}
-        for fact in self.facts:
+        for fact in self._facts:
             if fact[0] == "wore" and fact[1] not in cloaks:
                 cloaks[fact[1]] = fact[2]
         return tuple([cloaks.get(guest) for guest in self.house.guests])
@@ -36,17 +41,17 @@ class Story:
     def __add__(self, other):
         if self.house != other.house or self.book != other.book:
             raise StoriesDiffer()
-        return Story(self.house, self.book, self.facts + other.facts)
+        return Story(self.house, self.book, self._facts + other.facts)
 
     def __len__(self):
-        return len(self.facts)
+        return len(self._facts)
 
     def __iter__(self):
-        return iter(self.facts)
+        return iter(self._facts)
 
     def __contains__(self, fact):
-        return frozen(fact) in self.facts
+        return frozen(fact) in self._facts
 
     def __eq__(self, other):
         return (isinstance(other, Story) and self.house == other.house and self.book == other.book
-                and self.facts == other.facts)
+                and self._facts == other.facts)

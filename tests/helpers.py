@@ -1,9 +1,17 @@
 """What several test files need: sample houses, and the document's definitions written out plainly."""
 
+import signal
 import unittest
-from itertools import combinations, permutations
+from contextlib import contextmanager
+from itertools import combinations, permutations, product
+from random import Random
 
+from leavetaking.cases import Case
+from leavetaking.choices import choices
+from leavetaking.claims import Claim
+from leavetaking.evenings import evenings, wearing_of
 from leavetaking.houses import House
+from leavetaking.stories import Story
 
 ADA, BOB, CLEO = "ada", "bob", "cleo"
 GUESTS = (ADA, BOB, CLEO)
@@ -20,6 +28,8 @@ TURNED_EVENING = (
     ("out", ADA, BOB),
 )
 TURNED_WEARING = (BOB, CLEO, ADA)
+
+PLAIN = ("before", "bare", "away", "after", "chose")
 
 
 class PromiseCase(unittest.TestCase):
@@ -176,3 +186,178 @@ def all_facts(house):
             for many in range(len(lot) + 2):
                 facts += [(kind, event, many, lot) for kind in ("after", "ahead")]
     return facts
+
+
+def says_form(house, evening, form):
+    """Whether the evening keeps the form of a claim, read off point 33."""
+    if form[0] == "fact":
+        return says(house, evening, form[1])
+    one, two = says_form(house, evening, form[1]), says_form(house, evening, form[2])
+    return one and two if form[0] == "and" else one or two
+
+
+def fitting(story, claim=None):
+    """All evenings that fit the story, and keep the claim if one is given: all evenings are tried."""
+    return [evening for evening in evenings(story.house, story.book)
+            if all(says(story.house, evening, fact) for fact in story.facts)
+            and (claim is None or says_form(story.house, evening, claim.form))]
+
+
+def fitting_case(case):
+    """All evenings that fit the case."""
+    story = Story(case.house, case.book, case.facts)
+    return [evening for evening in fitting(story) if wearing_of(case.house, evening) == case.wearing]
+
+
+def come_at(evening, guest):
+    """How many guests have come when the guest leaves."""
+    place = [step[:2] for step in evening].index(("out", guest))
+    return len([step for step in evening[:place] if step[0] == "in"])
+
+
+def plain_bars(case, come, gone, event):
+    """All bars of the event in the situation, read off point 27."""
+    house, came = case.house, case.book[:come]
+    takers = dict(zip(case.wearing, house.guests))
+    bringers = dict(zip(house.brings, house.guests))
+    hung = [cloak for cloak in house.guests if bringers[cloak] in came and takers[cloak] not in gone]
+    room = [guest for guest in house.guests if guest in came and guest not in gone]
+    happened = [("in", guest) for guest in came] + [("out", guest) for guest in gone]
+    word, guest = event
+    taken = case.wearing[house.guests.index(guest)]
+    better = liked_better(house, guest, taken, hung)
+    found = []
+    if word == "in":
+        if come == len(house) or case.book[come] != guest:
+            found.append(("turn",))
+        if house.pegs is not None and len(hung) >= house.pegs:
+            found.append(("pegs",))
+    else:
+        if guest not in room:
+            found.append(("turn",))
+        if bringers[taken] not in came:
+            found.append(("cloak",))
+        if better >= house.depth(guest):
+            found.append(("depth",))
+    for index, fact in enumerate(case.facts):
+        if fact[0] == "before":
+            barred = fact[2] == event and fact[1] not in happened
+        elif fact[0] == "chose":
+            barred = ("out", fact[1]) == event and better >= fact[2]
+        elif fact[0] == "after":
+            barred = fact[1] == event and len([other for other in fact[3] if other in happened]) < fact[2]
+        else:
+            so = hung if fact[0] == "bare" else room
+            barred = fact[1] == event and len([item for item in fact[3] if item in so]) >= fact[2]
+        if barred:
+            found.append(("fact", index))
+    return tuple(found)
+
+
+def plain_hurry(case):
+    """The steps of the hurried evening, its number of guests come, its levels and whether it is whole."""
+    house, steps, come, levels = case.house, [], 0, {}
+    while True:
+        may = [guest for guest in house.guests if not plain_bars(case, come, list(levels), ("out", guest))]
+        if may:
+            levels[may[0]] = come
+            steps.append(("out", may[0], case.wearing[house.guests.index(may[0])]))
+        elif come < len(house) and not plain_bars(case, come, list(levels), ("in", case.book[come])):
+            steps.append(("in", case.book[come]))
+            come += 1
+        else:
+            whole = len(levels) == len(house)
+            return (tuple(steps), come, tuple([levels.get(guest) for guest in house.guests]), whole)
+
+
+def plain_closed(case, levels, come):
+    """Whether the levels are closed up to `come` and bar the end, read off point 30."""
+    guests = case.house.guests
+    for k in range(come + 1):
+        lot = [guest for guest, level in zip(guests, levels) if level is not None and level <= k]
+        if any(guest not in lot and not plain_bars(case, k, lot, ("out", guest)) for guest in guests):
+            return False
+    if come < len(guests):
+        return plain_bars(case, come, lot, ("in", case.book[come])) != ()
+    return len(lot) < len(guests)
+
+
+def plain_lots(form):
+    """The lots of the form of a claim, read off point 34."""
+    if form[0] == "fact":
+        return [(form[1],)]
+    one, two = plain_lots(form[1]), plain_lots(form[2])
+    if form[0] == "or":
+        return one + [lot for lot in two if lot not in one]
+    found = []
+    for first in one:
+        for second in two:
+            lot = first + tuple([fact for fact in second if fact not in first])
+            if lot not in found:
+                found.append(lot)
+    return found
+
+
+def plain_cases(story, claim=None):
+    """The wearings and the facts of all cases, read off point 35: every wearing is tried."""
+    found = []
+    for wearing in permutations(story.house.guests):
+        for lot in [()] if claim is None else plain_lots(claim.form):
+            parts = [choices(story.house, wearing, fact) for fact in story.facts + lot]
+            found += [(wearing, sum(way, ())) for way in product(*parts)]
+    return found
+
+
+def plain_facts(house):
+    """All plain facts for the house whose lots are in house order, or in the order of events."""
+    return [fact for fact in all_facts(house) if fact[0] in PLAIN]
+
+
+def some_cases(count, houses=None):
+    """So many cases for each of the sample houses, made of its wearings and plain facts in a fixed disorder."""
+    draw = Random(40)
+    for house, book in houses or sample_houses():
+        facts = plain_facts(house)
+        for _ in range(count):
+            wearing = draw.sample(house.guests, len(house))
+            yield Case(house, book, wearing, [draw.choice(facts) for _ in range(draw.choice((0, 1, 2, 2, 3, 5)))])
+
+
+def some_stories(count, houses=None):
+    """So many pairs of a story and a claim for each of the sample houses, made in a fixed disorder."""
+    draw = Random(41)
+    for house, book in houses or sample_houses():
+        facts = all_facts(house)
+        for _ in range(count):
+            told = [draw.choice(facts) for _ in range(draw.choice((0, 1, 1, 2, 3)))]
+            yield Story(house, book, told), some_claim(draw, facts)
+
+
+def bounded_stories(count):
+    """Those of them in which as many cases come about as the document bounds them."""
+    for story, claim in some_stories(count):
+        if sum([len(plain_cases(story, told)) for told in (None, claim, ~claim)]) <= 2000:
+            yield story, claim
+
+
+def some_claim(draw, facts):
+    """A claim of up to three facts."""
+    claims = [Claim.of(draw.choice(facts)) for _ in range(draw.choice((1, 1, 2, 3)))]
+    while len(claims) > 1:
+        one, two = claims[:2]
+        claims = claims[2:] + [draw.choice((one & two, one | two, ~one | two, ~(one | ~two)))]
+    return claims[0]
+
+
+@contextmanager
+def within(seconds):
+    """The block fails if it takes longer: for promises that are broken by going through too much."""
+    def late(*_):
+        raise AssertionError(f"took longer than {seconds} seconds")
+    before = signal.signal(signal.SIGALRM, late)
+    signal.alarm(seconds)
+    try:
+        yield
+    finally:
+        signal.alarm(0)
+        signal.signal(signal.SIGALRM, before)

@@ -36,6 +36,23 @@ EXAMPLES = {
 >>> [choices(house, ["bob", "ada"], ("wore", "ada", "bob")), choices(house, ["bob", "ada"], ("spared", "ada", "bob"))]
 [((),), ()]
 """,
+    "bars": """
+>>> from leavetaking.houses import House
+>>> from leavetaking.cases import Case
+>>> from leavetaking.bars import bars
+>>> case = Case(House(["ada", "bob"]), ["ada", "bob"], ["bob", "ada"], [("after", ("out", "ada"), 1, [("out", "bob")])])
+>>> [bars(case, 1, [], ("out", "ada")), bars(case, 2, [], ("out", "ada")), bars(case, 2, ["bob"], ("out", "ada"))]
+[(('cloak',), ('depth',), ('fact', 0)), (('depth',), ('fact', 0)), ()]
+""",
+    "casework": """
+>>> from leavetaking.houses import House
+>>> from leavetaking.stories import Story
+>>> from leavetaking.claims import Claim
+>>> from leavetaking.casework import refutation
+>>> story = Story(House(["ada", "bob"]), ["ada", "bob"], [("wore", "bob", "ada")])
+>>> refutation(story, Claim.of(("before", ("out", "ada"), ("in", "bob"))))
+((('bob', 'ada'), (('before', ('out', 'ada'), ('in', 'bob')),), (None, None), 1),)
+""",
 }
 
 

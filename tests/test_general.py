@@ -2,16 +2,27 @@
 
 from copy import deepcopy
 
+from leavetaking.bars import bars
 from leavetaking.books import events_of, is_book
+from leavetaking.cases import Case
+from leavetaking.casework import cases_of, first_evening, is_refutation, refutation
 from leavetaking.choices import choices
+from leavetaking.claims import Claim, check_claim
+from leavetaking.desks import Desk, Supposing, perform
 from leavetaking.errors import BadBook, BadFact, NotLet
 from leavetaking.evenings import book_of, evenings, is_evening, place_of, row_of, walk, wearing_of
 from leavetaking.facts import contrary
 from leavetaking.fitting import fits, misfit
 from leavetaking.houses import House
+from leavetaking.hurrying import hurry
+from leavetaking.keeping import keeps, lots_of
+from leavetaking.levels import gone_at, is_closed, least_come, waiting
 from leavetaking.meanings import holds
 from leavetaking.standings import after_step, hanging, next_steps, present
 from leavetaking.stories import Story
+from leavetaking.sureorder import coming_numbers, evening_with_number, sure_order
+from leavetaking.verdicts import is_verdict, verdict
+from leavetaking.wearings import evening_of_wearing, possible_wearings
 
 from tests.helpers import (
     ADA, BOB, CLEO, GUESTS, PromiseCase, TURNED, TURNED_BOOK, TURNED_EVENING, TURNED_WEARING, listed,
@@ -20,11 +31,76 @@ from tests.helpers import (
 STORY = Story(TURNED, TURNED_BOOK, [("wore", ADA, BOB), ("chose", BOB, 2)])
 STANDING = (3, ((BOB, CLEO),))
 HUNG = ("hung", ("out", ADA), 1, (BOB, CLEO))
+CHOSE = ("chose", BOB, 2)
+# A case in which cleo cannot come, and a claim that every evening of STORY breaks.
+CASE = Case(TURNED, TURNED_BOOK, TURNED_WEARING, [
+    CHOSE, ("after", ("in", CLEO), 1, (("out", ADA),)), ("chose", ADA, 0),
+])
+CLAIM = Claim.of(HUNG) & (Claim.of(("wore", ADA, CLEO)) | Claim.of(("chose", CLEO, 0)))
+PAPER = refutation(STORY.told(("before", ("out", CLEO), ("in", ADA))))
 
 
 def all_evenings(house, book):
     """The evenings of the generator in a tuple."""
     return tuple(evenings(house, book))
+
+
+def made_case(house, book, wearing, facts):
+    """The fields of the case."""
+    case = Case(house, book, wearing, facts)
+    return (case.book, case.wearing, case.facts)
+
+
+def hurried(case):
+    """The fields of the hurried evening."""
+    found = hurry(case)
+    return (found.steps, found.come, found.levels, found.whole)
+
+
+def all_cases(story, claim):
+    """What the cases of the generator have."""
+    return tuple([(case.wearing, case.facts) for case in cases_of(story, claim)])
+
+
+def all_wearings(story, claim):
+    """The wearings of the generator in a tuple."""
+    return tuple(possible_wearings(story, claim))
+
+
+def judged(story, claim):
+    """The fields of the verdict."""
+    found = verdict(story, claim)
+    return (found.word, found.keeping, found.breaking, found.paper)
+
+
+def performed(story, actions):
+    """What was seen at a new desk, and how the desk was left."""
+    desk = Desk(story)
+    return (perform(desk, actions), desk.story, desk.deeds)
+
+
+def done(story, deed):
+    """The desk behind a deed."""
+    desk = Desk(story)
+    desk.do(deed)
+    return (desk.story, desk.deeds)
+
+
+def supposed(story, facts):
+    """The story in the supposition."""
+    with Supposing(Desk(story), facts) as desk:
+        return desk.story
+
+
+def claimed(fact):
+    """The form of the claim."""
+    return Claim.of(fact).form
+
+
+def combined(claims):
+    """The forms of the claims of all and of some of the claims, with their facts."""
+    every, some = Claim.every(claims), Claim.some(claims)
+    return (every.form, some.form, every.facts, some.facts, lots_of(every), lots_of(~some))
 
 
 # A function, the house or story that it is passed first, and what it is passed behind that.
@@ -47,6 +123,29 @@ CALLS = (
     (fits, STORY, (TURNED_EVENING,)),
     (House.liking, TURNED, (ADA, (1, 2, 3))),
     (House.bringing, TURNED, ((CLEO, ADA, BOB),)),
+    (performed, STORY, ((("tell", HUNG), ("suppose", (CHOSE,), (("drop", 0), ("look",))), ("attempt", (("look",),))),)),
+    (done, STORY, (("tell", HUNG),)),
+    (supposed, STORY, ((HUNG, CHOSE),)),
+    (made_case, TURNED, (TURNED_BOOK, TURNED_WEARING, (CHOSE, ("bare", ("in", BOB), 1, (ADA, BOB))))),
+    (bars, CASE, (2, (CLEO, BOB), ("out", ADA))),
+    (hurried, CASE, ()),
+    (is_closed, CASE, ((None, 1, None), 2)),
+    (waiting, CASE, ()),
+    (least_come, CASE, ((ADA, ADA),)),
+    (gone_at, CASE, (2,)),
+    (check_claim, TURNED, (CLAIM,)),
+    (keeps, TURNED, (TURNED_EVENING, CLAIM)),
+    (all_cases, STORY, (CLAIM,)),
+    (first_evening, STORY, (~CLAIM,)),
+    (refutation, STORY, (CLAIM,)),
+    (is_refutation, STORY.told(("before", ("out", CLEO), ("in", ADA))), (None, PAPER)),
+    (judged, STORY, (CLAIM,)),
+    (is_verdict, STORY, (CLAIM, "never", (TURNED_EVENING, refutation(STORY, CLAIM)))),
+    (sure_order, STORY, ()),
+    (evening_with_number, STORY, (BOB, 2)),
+    (coming_numbers, STORY, (BOB,)),
+    (all_wearings, STORY, (~CLAIM,)),
+    (evening_of_wearing, STORY, (TURNED_WEARING, ~CLAIM)),
 )
 CALLS_WITHOUT_HOUSE = (
     (book_of, (TURNED_EVENING,)),
@@ -54,6 +153,8 @@ CALLS_WITHOUT_HOUSE = (
     (place_of, (TURNED_EVENING, ("out", CLEO))),
     (contrary, (HUNG,)),
     (House, (GUESTS,)),
+    (claimed, (HUNG,)),
+    (combined, ((CLAIM, ~CLAIM),)),
 )
 
 
@@ -71,6 +172,8 @@ class Sequences(PromiseCase):
             self.check_tuples(value[0] + value[1] + tuple(value[2]))
         elif isinstance(value, Story):
             self.check_tuples((value.book, value.facts, value.wearers))
+        elif isinstance(value, Claim):
+            self.check_tuples((value.form, value.facts))
         elif isinstance(value, tuple):
             for item in value:
                 self.check_tuples(item)
@@ -168,6 +271,22 @@ class Generators(PromiseCase):
         found = evenings(TURNED, book)
         book[:] = TURNED_BOOK
         self.assertEqual(tuple(found), all_evenings(TURNED, TURNED_BOOK))
+
+    def test_errors_of_cases_and_wearings(self):
+        strange = Claim.of(("chose", "zoe", 1))
+        for found in (cases_of(STORY, strange), possible_wearings(STORY, strange)):
+            with self.assertRaises(BadFact):
+                next(found)
+
+    def test_other_questions_in_between_change_nothing(self):
+        due = [call(first, *values) for call, first, values in CALLS]
+        found = possible_wearings(STORY), cases_of(STORY, ~CLAIM), evenings(TURNED, TURNED_BOOK)
+        firsts = [next(generator) for generator in found]
+        self.assertEqual([call(first, *values) for call, first, values in reversed(CALLS)], due[::-1])
+        self.assertEqual((firsts[0],) + tuple(found[0]), tuple(possible_wearings(STORY)))
+        rest = [(case.wearing, case.facts) for case in [firsts[1]] + list(found[1])]
+        self.assertEqual(tuple(rest), all_cases(STORY, ~CLAIM))
+        self.assertEqual((firsts[2],) + tuple(found[2]), all_evenings(TURNED, TURNED_BOOK))
 
     def test_two_generators_do_not_disturb_each_other(self):
         one, two = evenings(TURNED, TURNED_BOOK), evenings(TURNED, TURNED_BOOK)
