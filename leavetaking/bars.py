@@ -6,13 +6,18 @@ from leavetaking.common import frozen
 def bars(case, come, gone, event):
     """All bars of the event in the situation, in order."""
     came = first_come(case, come)
-    left = {guest: True for guest in frozen(gone)}
+    left = lot_of(gone)
     event = frozen(event)
     return tuple(bars_at(case, came, left, event))
 
 
-# From here on a situation is two dicts, whose keys are those who have come, which are the first ones of the book, and
-# those who are taken as gone.
+# From here on a situation is two dicts, whose keys are those who have come and those who are taken as gone. The cases
+# may have a book or none: with a book, those who have come are the first ones of it.
+
+
+def lot_of(guests):
+    """The lot of these guests."""
+    return {guest: True for guest in frozen(guests)}
 
 
 def first_come(case, come):
@@ -41,8 +46,7 @@ def bars_at(case, came, gone, event):
 
 def _coming_bars(case, came, gone, guest):
     """The bars of the coming of the guest, without those of the facts."""
-    # A slice, because behind the last guest of the book there is none to come.
-    if case.book[len(came):len(came) + 1] != (guest,):
+    if not case.has_turn(came, guest):
         yield ("turn",)
     pegs = case.house.pegs
     if pegs is not None and _hanging_many(case, came, gone, case.house.guests) >= pegs:

@@ -19,3 +19,13 @@ def own_book(house, book):
 def events_of(house):
     """All events of the house, in the order of events."""
     return tuple([(word, guest) for word in ("in", "out") for guest in house.guests])
+
+
+def books_from(guests, begun):
+    """All books that begin with the guests that have begun and go on with these guests, ascending."""
+    if not guests:
+        yield begun
+    for guest in guests:
+        rest = [other for other in guests if other != guest]
+        longer = begun + (guest,)
+        yield from books_from(rest, longer)

@@ -49,7 +49,8 @@ def is_refutation(story, claim, paper):
     return True
 
 
-# The following four are for what asks for the cases of one wearing after the other.
+# The following are for what asks for the cases of one wearing after the other. Torn stories are passed to all but the
+# last two of them, too.
 
 
 def claimed_lots(story, claim):
@@ -70,8 +71,8 @@ def told_wearings(story):
         yield from _wearings_from(wearers, free, ())
 
 
-def cases_worn(story, lots, wearing):
-    """All cases with this wearing, where the claim has these lots, in order."""
+def facts_worn(story, lots, wearing):
+    """The facts of all cases with this wearing, where the claim has these lots, in order."""
     house = story.house
     told = _parts(house, wearing, story.facts)
     if not all(told):
@@ -79,8 +80,13 @@ def cases_worn(story, lots, wearing):
     for lot in lots:
         parts = told + _parts(house, wearing, lot)
         if all(parts):
-            for facts in _ways(parts):
-                yield Case(house, story.book, wearing, facts)
+            yield from _ways(parts)
+
+
+def cases_worn(story, lots, wearing):
+    """All cases with this wearing, where the claim has these lots, in order."""
+    for facts in facts_worn(story, lots, wearing):
+        yield Case(story.house, story.book, wearing, facts)
 
 
 def evening_worn(story, lots, wearing):

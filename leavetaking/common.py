@@ -26,3 +26,25 @@ def picks(many, count):
 def different(row):
     """The different items of the row, in the order in which they stand in it first."""
     return tuple({item: True for item in row})
+
+
+def index_lots(many):
+    """All lots of the indexes below `many`, in the order of lots (point 47)."""
+    return [lot for count in range(many + 1) for lot in picks(many, count)]
+
+
+def least_lots(many, is_one):
+    """All lots of indexes for which `is_one` holds, and for no smaller lot in them, in order.
+
+    If it holds for a lot, it must also hold for every greater one that contains this lot.
+    """
+    found = []
+    for lot in index_lots(many):
+        if not any([_is_within(less, lot) for less in found]) and is_one(lot):
+            found.append(lot)
+    return tuple(found)
+
+
+def _is_within(less, lot):
+    """Whether the lot has all indexes of the other one."""
+    return all([index in lot for index in less])

@@ -1,15 +1,15 @@
 """Houses: guests, their cloaks, tastes and depths, and the pegs (points 6 to 8)."""
 
 from leavetaking.common import frozen
-from leavetaking.errors import BadBrings, BadDepth, BadName, BadPegs, BadTaste, TakenName, UnknownGuest
-from leavetaking.names import is_name
+from leavetaking.errors import BadBrings, BadDepth, BadPegs, BadTaste, UnknownGuest
+from leavetaking.names import own_names
 
 
 class House:
     """A house never changes: what would change it gives a new one."""
 
     def __init__(self, guests, *, worth=None, brings=None, pegs=None):
-        self.guests = _checked_guests(frozen(guests))
+        self.guests = own_names(guests)
         self._places = {guest: place for place, guest in enumerate(self.guests)}
         self._tastes = (_checked_worth(self.guests, frozen(worth)),) * len(self.guests)
         self._depths = (1,) * len(self.guests)
@@ -94,14 +94,11 @@ class House:
         return house
 
 
-def _checked_guests(guests):
-    for name in guests:
-        if not is_name(name):
-            raise BadName(name)
-    for place, name in enumerate(guests):
-        if name in guests[:place]:
-            raise TakenName(name)
-    return guests
+def check_guests(house, names):
+    """UnknownGuest for the first of the names that is not that of a guest."""
+    for name in names:
+        if name not in house:
+            raise UnknownGuest(name)
 
 
 def _checked_worth(guests, worth):

@@ -32,15 +32,10 @@ class Story:
     @property
     def wearers(self):
         """For each guest the cloak in which the first fact `wore` about it says that it left, or None."""
-        cloaks = {}
-        for fact in self._facts:
-            if fact[0] == "wore" and fact[1] not in cloaks:
-                cloaks[fact[1]] = fact[2]
-        return tuple([cloaks.get(guest) for guest in self.house.guests])
+        return wearers_in(self.house, self._facts)
 
     def __add__(self, other):
-        if self.house != other.house or self.book != other.book:
-            raise StoriesDiffer()
+        check_comparable(self, other)
         return Story(self.house, self.book, self._facts + other.facts)
 
     def __len__(self):
@@ -55,3 +50,18 @@ class Story:
     def __eq__(self, other):
         return (isinstance(other, Story) and self.house == other.house and self.book == other.book
                 and self._facts == other.facts)
+
+
+def check_comparable(one, two):
+    """StoriesDiffer if the houses or the books of the two stories differ."""
+    if one.house != two.house or one.book != two.book:
+        raise StoriesDiffer()
+
+
+def wearers_in(house, facts):
+    """What `wearers` tells of a story of the house with these facts."""
+    cloaks = {}
+    for fact in facts:
+        if fact[0] == "wore" and fact[1] not in cloaks:
+            cloaks[fact[1]] = fact[2]
+    return tuple([cloaks.get(guest) for guest in house.guests])

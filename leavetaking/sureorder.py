@@ -3,7 +3,8 @@
 from leavetaking.books import events_of
 from leavetaking.cases import Case
 from leavetaking.casework import cases_of, first_evening
-from leavetaking.errors import NoEvening, UnknownGuest
+from leavetaking.errors import NoEvening
+from leavetaking.houses import check_guests
 from leavetaking.hurrying import hurry
 
 
@@ -27,8 +28,7 @@ def sure_order(story):
 
 def evening_with_number(story, guest, number):
     """An evening that fits and in which just so many guests have come when the guest leaves, or None."""
-    if guest not in story.house:
-        raise UnknownGuest(guest)
+    check_guests(story.house, [guest])
     book = story.book
     if not 1 <= number <= len(book):
         return None

@@ -19,16 +19,31 @@ class Verdict:
 
 def verdict(story, claim):
     """The verdict on the claim for the story."""
-    contrary_claim = ~claim
     keeping = first_evening(story, claim)
-    breaking = first_evening(story, contrary_claim)
-    if keeping is None and breaking is None:
-        return Verdict("none", keeping, breaking, refutation(story))
+    breaking = first_evening(story, ~claim)
+    word = word_with(keeping, breaking)
+    if word == "open":
+        return Verdict(word, keeping, breaking, ())
+    return Verdict(word, keeping, breaking, refutation(story, refuted_by(word, claim)))
+
+
+def word_on(story, claim):
+    """The word of the verdict on the claim for the story."""
+    return word_with(first_evening(story, claim), first_evening(story, ~claim))
+
+
+def word_with(keeping, breaking):
+    """The word, if these are evenings that fit and keep and break the claim, or None without such an evening."""
     if keeping is None:
-        return Verdict("never", keeping, breaking, refutation(story, claim))
-    if breaking is None:
-        return Verdict("sure", keeping, breaking, refutation(story, contrary_claim))
-    return Verdict("open", keeping, breaking, ())
+        return "none" if breaking is None else "never"
+    return "sure" if breaking is None else "open"
+
+
+def refuted_by(word, claim):
+    """The claim that the paper for the word refutes; None if it refutes the story without a claim."""
+    if word == "none":
+        return None
+    return ~claim if word == "sure" else claim
 
 
 def is_verdict(story, claim, word, papers):
@@ -37,13 +52,10 @@ def is_verdict(story, claim, word, papers):
     if word not in ("none", "sure", "never", "open"):
         return False
     one, two = frozen(papers)
-    if word == "none":
-        return one is None and is_refutation(story, None, two)
-    if word == "sure":
-        return fits(story, one) and is_refutation(story, ~claim, two)
-    if word == "never":
-        return fits(story, one) and is_refutation(story, claim, two)
-    return _is_such(story, claim, one) and _is_such(story, ~claim, two)
+    if word == "open":
+        return _is_such(story, claim, one) and _is_such(story, ~claim, two)
+    evening_due = one is None if word == "none" else fits(story, one)
+    return evening_due and is_refutation(story, refuted_by(word, claim), two)
 
 
 def _is_such(story, claim, steps):

@@ -1,7 +1,7 @@
 """Possible wearings and their evenings (point 40)."""
 
-from leavetaking.cases import own_wearing
 from leavetaking.casework import claimed_lots, evening_worn, told_wearings
+from leavetaking.worncases import own_wearing
 
 
 def possible_wearings(story, claim=None):

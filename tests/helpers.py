@@ -349,6 +349,78 @@ def some_claim(draw, facts):
     return claims[0]
 
 
+def many_facts(count, houses=None):
+    """So many pairs of a story with up to 7 facts and a claim for each of the houses, with few cases each."""
+    draw = Random(47)
+    for house, book in houses or sample_houses():
+        # Facts that are mostly so or mostly not so would seldom quarrel.
+        facts = [fact for fact in all_facts(house) if len(fact) == 3 or len(fact[3]) <= 2]
+        done = 0
+        while done < count:
+            told = [draw.choice(facts) for _ in range(draw.choice((2, 3, 4, 4, 5, 5, 6, 7)))]
+            if draw.choice((True, False, False)):
+                told.append(told[0])
+            told = told[:7]
+            ways = 1
+            for fact in told:
+                ways *= max([1] + [len(choices(house, wearing, fact)) for wearing in permutations(house.guests)])
+            if ways <= 12:
+                done += 1
+                yield Story(house, book, told), some_claim(draw, facts)
+
+
+def plain_word(story, claim):
+    """The word on the claim, told by all evenings."""
+    fit, keep = fitting(story), fitting(story, claim)
+    if not fit:
+        return "none"
+    if not keep:
+        return "never"
+    return "sure" if fit == keep else "open"
+
+
+def plain_least(many, is_one):
+    """All lots of indexes for which it is so, and for no smaller lot in them, in the order of point 47."""
+    found = [lot for lot in lots_from(range(many)) if is_one(lot)]
+    return tuple([lot for lot in found if not any(set(less) < set(lot) for less in found)])
+
+
+def plain_wearings(story, claim=None):
+    """The wearings of all evenings that fit, ascending."""
+    found = {wearing_of(story.house, evening) for evening in fitting(story, claim)}
+    return [wearing for wearing in permutations(story.house.guests) if wearing in found]
+
+
+def row_houses():
+    """Pairs of a house and a book, for tests that try all rows: the sample houses and some with pegs and depths."""
+    three = House(GUESTS)
+    return sample_houses() + [
+        (three.with_pegs(1), (BOB, CLEO, ADA)),
+        (TURNED.with_pegs(1), (CLEO, ADA, BOB)),
+        (three.liking(ADA, [1, 3, 2]).choosing(CLEO, 2).with_pegs(2), (CLEO, BOB, ADA)),
+        (three.bringing([CLEO, ADA, BOB]).choosing(ADA, 10 ** 30), (ADA, BOB, CLEO)),
+        (House(GUESTS, worth=[-7, -7, -7]), (BOB, ADA, CLEO)),
+        (three.bringing([BOB, ADA, CLEO]).liking(BOB, [0, 7, 7]).choosing(BOB, 2), (CLEO, ADA, BOB)),
+    ]
+
+
+def row_order(house, row):
+    """What the order of rows goes by."""
+    return [(house.guests.index(guest), house.guests.index(cloak)) for guest, cloak in row]
+
+
+def plain_rows(house):
+    """All rows of the house, in order."""
+    orders = list(permutations(house.guests))
+    found = [tuple(zip(guests, cloaks)) for guests in orders for cloaks in orders]
+    return sorted(found, key=lambda row: row_order(house, row))
+
+
+def leavings_of(evening):
+    """The row of the evening, read off its steps."""
+    return tuple([(step[1], step[2]) for step in evening if step[0] == "out"])
+
+
 @contextmanager
 def within(seconds):
     """The block fails if it takes longer: for promises that are broken by going through too much."""

@@ -53,6 +53,15 @@ EXAMPLES = {
 >>> refutation(story, Claim.of(("before", ("out", "ada"), ("in", "bob"))))
 ((('bob', 'ada'), (('before', ('out', 'ada'), ('in', 'bob')),), (None, None), 1),)
 """,
+    "rowbounds": """
+>>> from leavetaking.houses import House
+>>> from leavetaking.rowbounds import row_bounds, row_conflict
+>>> house = House(["ada", "bob"])
+>>> row_bounds(house, ["ada", "bob"], [("bob", "ada"), ("ada", "bob")])
+((2, 2), (2, 2))
+>>> [row_bounds(house, ["ada", "bob"], [("bob", "bob"), ("ada", "ada")]), row_conflict(house, ["ada", "bob"], [("bob", "bob"), ("ada", "ada")])]
+[((2, 0), (1, 2)), (0, 0)]
+""",
 }
 
 

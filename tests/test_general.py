@@ -9,18 +9,32 @@ from leavetaking.casework import cases_of, first_evening, is_refutation, refutat
 from leavetaking.choices import choices
 from leavetaking.claims import Claim, check_claim
 from leavetaking.desks import Desk, Supposing, perform
-from leavetaking.errors import BadBook, BadFact, NotLet
+from leavetaking.errors import BadBook, BadFact, BadRow, NotLet
 from leavetaking.evenings import book_of, evenings, is_evening, place_of, row_of, walk, wearing_of
 from leavetaking.facts import contrary
 from leavetaking.fitting import fits, misfit
 from leavetaking.houses import House
 from leavetaking.hurrying import hurry
+from leavetaking.inclusions import are_alike, include, is_inclusion
 from leavetaking.keeping import keeps, lots_of
 from leavetaking.levels import gone_at, is_closed, least_come, waiting
 from leavetaking.meanings import holds
+from leavetaking.quarrels import fewest_doubted, least_doubts, least_quarrels
+from leavetaking.reasons import freed_by, least_reasons
+from leavetaking.rowbooks import books_of, late_evening, latest_book, needs_of
+from leavetaking.rowbounds import is_row, row_bounds, row_conflict
+from leavetaking.rowcounts import quick_evening, row_evening_count, row_evenings
+from leavetaking.rows import next_pairs, row_count, rows
+from leavetaking.rowstories import first_difference, row_story
+from leavetaking.settling import deciders, settling
+from leavetaking.sparing import lean, spare_facts
 from leavetaking.standings import after_step, hanging, next_steps, present
 from leavetaking.stories import Story
 from leavetaking.sureorder import coming_numbers, evening_with_number, sure_order
+from leavetaking.takers import (
+    best_cloak, evening_with, own_range, possible_cloaks, possible_guests, sure_wearers, worst_cloak,
+)
+from leavetaking.telling import do_tell, telling_guests
 from leavetaking.verdicts import is_verdict, verdict
 from leavetaking.wearings import evening_of_wearing, possible_wearings
 
@@ -38,6 +52,10 @@ CASE = Case(TURNED, TURNED_BOOK, TURNED_WEARING, [
 ])
 CLAIM = Claim.of(HUNG) & (Claim.of(("wore", ADA, CLEO)) | Claim.of(("chose", CLEO, 0)))
 PAPER = refutation(STORY.told(("before", ("out", CLEO), ("in", ADA))))
+# A story that STORY is inside of, one that no evening fits, and a row that follows TURNED_BOOK.
+WIDER = Story(TURNED, TURNED_BOOK, [("spared", ADA, ADA), ("before", ("in", ADA), ("out", ADA))])
+QUARREL = STORY.told(("wore", ADA, CLEO)).told(HUNG).told(("spared", BOB, BOB))
+ROW = ((BOB, CLEO), (CLEO, ADA), (ADA, BOB))
 
 
 def all_evenings(house, book):
@@ -71,6 +89,27 @@ def judged(story, claim):
     """The fields of the verdict."""
     found = verdict(story, claim)
     return (found.word, found.keeping, found.breaking, found.paper)
+
+
+def included(one, two):
+    """The fields of the inclusion."""
+    found = include(one, two)
+    return (found.inside, found.evening, found.papers)
+
+
+def all_rows(house, book):
+    """The rows of the generator in a tuple."""
+    return tuple(rows(house, book))
+
+
+def all_row_evenings(house, book, row):
+    """The evenings of the generator in a tuple."""
+    return tuple(row_evenings(house, book, row))
+
+
+def all_books(house, row):
+    """The books of the generator in a tuple."""
+    return tuple(books_of(house, row))
 
 
 def performed(story, actions):
@@ -146,6 +185,43 @@ CALLS = (
     (coming_numbers, STORY, (BOB,)),
     (all_wearings, STORY, (~CLAIM,)),
     (evening_of_wearing, STORY, (TURNED_WEARING, ~CLAIM)),
+    (possible_cloaks, STORY, (BOB,)),
+    (possible_guests, STORY, (CLEO,)),
+    (evening_with, STORY, (BOB, CLEO)),
+    (sure_wearers, STORY, ()),
+    (best_cloak, STORY, (BOB,)),
+    (worst_cloak, STORY, (BOB,)),
+    (own_range, STORY, ()),
+    (do_tell, STORY, ((CLEO, ADA),)),
+    (telling_guests, STORY, ()),
+    (included, STORY, (WIDER,)),
+    (included, WIDER, (STORY,)),
+    (is_inclusion, STORY, (WIDER, include(STORY, WIDER).papers)),
+    (are_alike, STORY, (WIDER,)),
+    (spare_facts, STORY, ()),
+    (lean, STORY, ()),
+    (least_quarrels, QUARREL, ()),
+    (least_doubts, QUARREL, ()),
+    (fewest_doubted, QUARREL, ()),
+    (least_reasons, QUARREL, (CLAIM,)),
+    (freed_by, QUARREL, (CLAIM,)),
+    (settling, STORY, (CLAIM, (HUNG, CHOSE))),
+    (deciders, STORY, (CLAIM, (HUNG, CHOSE))),
+    (is_row, TURNED, (ROW,)),
+    (row_bounds, TURNED, (TURNED_BOOK, ROW)),
+    (row_conflict, TURNED, (TURNED_BOOK, ROW[::-1])),
+    (all_row_evenings, TURNED, (TURNED_BOOK, ROW)),
+    (row_evening_count, TURNED, (TURNED_BOOK, ROW)),
+    (quick_evening, TURNED, (TURNED_BOOK, ROW)),
+    (all_rows, TURNED, (TURNED_BOOK,)),
+    (row_count, TURNED, (TURNED_BOOK,)),
+    (next_pairs, TURNED, (TURNED_BOOK, ROW[:1])),
+    (needs_of, TURNED, (ROW,)),
+    (late_evening, TURNED, (ROW,)),
+    (all_books, TURNED, (ROW,)),
+    (latest_book, TURNED, (ROW,)),
+    (first_difference, TURNED, (TURNED_BOOK, GUESTS)),
+    (row_story, TURNED, (TURNED_BOOK, ROW)),
 )
 CALLS_WITHOUT_HOUSE = (
     (book_of, (TURNED_EVENING,)),
@@ -278,15 +354,28 @@ class Generators(PromiseCase):
             with self.assertRaises(BadFact):
                 next(found)
 
+    def test_errors_of_rows(self):
+        for found in (rows(TURNED, [ADA]), row_evenings(TURNED, [ADA], [])):
+            with self.assertRaises(BadBook):
+                next(found)
+        for found in (books_of(TURNED, []), row_evenings(TURNED, TURNED_BOOK, [])):
+            with self.assertRaises(BadRow):
+                next(found)
+
     def test_other_questions_in_between_change_nothing(self):
         due = [call(first, *values) for call, first, values in CALLS]
         found = possible_wearings(STORY), cases_of(STORY, ~CLAIM), evenings(TURNED, TURNED_BOOK)
+        others = rows(TURNED, TURNED_BOOK), row_evenings(TURNED, TURNED_BOOK, ROW), books_of(TURNED, ROW)
         firsts = [next(generator) for generator in found]
+        other_firsts = [next(generator) for generator in others]
         self.assertEqual([call(first, *values) for call, first, values in reversed(CALLS)], due[::-1])
         self.assertEqual((firsts[0],) + tuple(found[0]), tuple(possible_wearings(STORY)))
         rest = [(case.wearing, case.facts) for case in [firsts[1]] + list(found[1])]
         self.assertEqual(tuple(rest), all_cases(STORY, ~CLAIM))
         self.assertEqual((firsts[2],) + tuple(found[2]), all_evenings(TURNED, TURNED_BOOK))
+        whole = [(first,) + tuple(generator) for first, generator in zip(other_firsts, others)]
+        self.assertEqual(whole, [all_rows(TURNED, TURNED_BOOK), all_row_evenings(TURNED, TURNED_BOOK, ROW),
+                                 all_books(TURNED, ROW)])
 
     def test_two_generators_do_not_disturb_each_other(self):
         one, two = evenings(TURNED, TURNED_BOOK), evenings(TURNED, TURNED_BOOK)
