@@ -29,7 +29,7 @@ def quick_evening(house, book, row):
     if conflict_in(bounds) is not None:
         return None
     leasts = [least for least, _ in bounds]
-    return _evening_with(frozen(book), frozen(row), [max(leasts[:index + 1]) for index in range(len(leasts))])
+    return _evening_with(book, row, [max(leasts[:index + 1]) for index in range(len(leasts))])
 
 
 def _numberings(bounds, numbers):

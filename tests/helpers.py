@@ -11,7 +11,10 @@ from leavetaking.choices import choices
 from leavetaking.claims import Claim
 from leavetaking.evenings import evenings, wearing_of
 from leavetaking.houses import House
+from leavetaking.opencases import OpenCase
+from leavetaking.seen import Seen
 from leavetaking.stories import Story
+from leavetaking.torn import Torn
 
 ADA, BOB, CLEO = "ada", "bob", "cleo"
 GUESTS = (ADA, BOB, CLEO)
@@ -217,7 +220,18 @@ def come_at(evening, guest):
 
 def plain_bars(case, come, gone, event):
     """All bars of the event in the situation, read off point 27."""
-    house, came = case.house, case.book[:come]
+    came = case.book[:come]
+    return bars_with(case, came, gone, event, case.book[come:come + 1] == event[1:])
+
+
+def plain_open_bars(case, come, gone, event):
+    """All bars of the event in the situation of a case without a book, read off point 68."""
+    return bars_with(case, come, gone, event, event[1] not in come)
+
+
+def bars_with(case, came, gone, event, may_come):
+    """The same for both kinds of cases; the last argument tells whether a coming would have its turn."""
+    house = case.house
     takers = dict(zip(case.wearing, house.guests))
     bringers = dict(zip(house.brings, house.guests))
     hung = [cloak for cloak in house.guests if bringers[cloak] in came and takers[cloak] not in gone]
@@ -228,7 +242,7 @@ def plain_bars(case, come, gone, event):
     better = liked_better(house, guest, taken, hung)
     found = []
     if word == "in":
-        if come == len(house) or case.book[come] != guest:
+        if not may_come:
             found.append(("turn",))
         if house.pegs is not None and len(hung) >= house.pegs:
             found.append(("pegs",))
@@ -419,6 +433,74 @@ def plain_rows(house):
 def leavings_of(evening):
     """The row of the evening, read off its steps."""
     return tuple([(step[1], step[2]) for step in evening if step[0] == "out"])
+
+
+def some_seen(count, many=4):
+    """So much that was seen of up to so many guests, in a fixed disorder."""
+    draw = Random(60)
+    for _ in range(count):
+        guests = ("g2", "g0", "g3", "g1", "g4")[:draw.randint(1, many)]
+        taken = []
+        for _ in range(draw.choice((0, 1, 2, 3, 5, 7))):
+            hanging = [cloak for cloak in guests if draw.choice((True, True, False))] or [guests[0]]
+            taken.append((draw.choice(guests), draw.choice(hanging), tuple(hanging)))
+        ties = [tuple(draw.sample(guests, 2)) for _ in range(draw.choice((0, 0, 1, 2)) if len(guests) > 1 else 0)]
+        yield Seen(guests, taken, [draw.choice((1, 1, 2, 2, 3)) for _ in guests], ties)
+
+
+def plain_explains(order, taking, depth):
+    """Whether the order explains the taking with the depth, read off point 60."""
+    _, cloak, hanging = taking
+    return len([other for other in hanging if order.index(other) < order.index(cloak)]) < depth
+
+
+def plain_orders(seen):
+    """All orders that fit what was seen, ascending: every order is tried."""
+    depths = dict(zip(seen.guests, seen.depths))
+    return [order for order in permutations(seen.guests)
+            if all(plain_explains(order, taking, depths[taking[0]]) for taking in seen.takings)
+            and all(order.index(better) < order.index(worse) for better, worse in seen.ties)]
+
+
+def plain_held(seen, cloak, lot):
+    """Whether a taking or a tie keeps the cloak from being the worst one of the lot, as in points 62 and 63."""
+    depths = dict(zip(seen.guests, seen.depths))
+    held = [len(set(hanging) & set(lot)) > depths[guest] for guest, taken, hanging in seen.takings if taken == cloak]
+    return any(held) or any(better == cloak and worse in lot for better, worse in seen.ties)
+
+
+def torn_samples(count, houses=None):
+    """So many pairs of a torn story and a claim for each of the sample houses, in a fixed disorder."""
+    draw = Random(67)
+    for house, _ in houses or sample_houses():
+        facts = [fact for fact in all_facts(house) if len(fact) == 3 or len(fact[3]) <= 2]
+        for _ in range(count):
+            told = [draw.choice(facts) for _ in range(draw.choice((0, 1, 1, 2, 2, 3)))]
+            claim = some_claim(draw, facts)
+            if sum([len(plain_cases(Story(house, house.guests, told), each)) for each in (None, claim, ~claim)]) <= 400:
+                yield Torn(house, told), claim
+
+
+def fitting_torn(torn, claim=None):
+    """All evenings of all books that fit the torn story, and keep the claim if one is given."""
+    return [evening for book in permutations(torn.house.guests)
+            for evening in fitting(Story(torn.house, book, torn.facts), claim)]
+
+
+def open_samples(count, houses=None):
+    """So many open cases for each of the sample houses, made of its wearings and plain facts in a fixed disorder."""
+    draw = Random(68)
+    for house, _ in houses or sample_houses():
+        facts = [fact for fact in plain_facts(house) if len(fact) == 3 or len(fact[3]) <= 2]
+        for _ in range(count):
+            wearing = draw.sample(house.guests, len(house))
+            yield OpenCase(house, wearing, [draw.choice(facts) for _ in range(draw.choice((0, 1, 1, 2, 2, 3, 5)))])
+
+
+def fitting_open(case):
+    """All evenings of all books that fit the open case."""
+    return [evening for evening in fitting_torn(Torn(case.house, case.facts))
+            if wearing_of(case.house, evening) == case.wearing]
 
 
 @contextmanager

@@ -62,6 +62,14 @@ EXAMPLES = {
 >>> [row_bounds(house, ["ada", "bob"], [("bob", "bob"), ("ada", "ada")]), row_conflict(house, ["ada", "bob"], [("bob", "bob"), ("ada", "ada")])]
 [((2, 0), (1, 2)), (0, 0)]
 """,
+    "peeling": """
+>>> from leavetaking.seen import Seen
+>>> from leavetaking.peeling import peel
+>>> peel(Seen(["ada", "bob"], [("ada", "bob", ("ada", "bob"))], [1, 1])).order
+('bob', 'ada')
+>>> peel(Seen(["ada", "bob"], [("ada", "bob", ("ada", "bob"))], [1, 1], [("ada", "bob")])).left
+('ada', 'bob')
+""",
 }
 
 

@@ -8,6 +8,7 @@ from leavetaking.cases import Case
 from leavetaking.casework import cases_of, first_evening, is_refutation, refutation
 from leavetaking.choices import choices
 from leavetaking.claims import Claim, check_claim
+from leavetaking.depths import least_depth, least_doubted, ordered_house
 from leavetaking.desks import Desk, Supposing, perform
 from leavetaking.errors import BadBook, BadFact, BadRow, NotLet
 from leavetaking.evenings import book_of, evenings, is_evening, place_of, row_of, walk, wearing_of
@@ -18,7 +19,12 @@ from leavetaking.hurrying import hurry
 from leavetaking.inclusions import are_alike, include, is_inclusion
 from leavetaking.keeping import keeps, lots_of
 from leavetaking.levels import gone_at, is_closed, least_come, waiting
+from leavetaking.likings import liking, sure_likings
 from leavetaking.meanings import holds
+from leavetaking.opencases import OpenCase, open_bars
+from leavetaking.openverdicts import is_open_refutation, open_cases, open_first, open_refutation, open_verdict
+from leavetaking.peeling import is_stuck, peel
+from leavetaking.places import order_count, order_with_place, orders, place_range
 from leavetaking.quarrels import fewest_doubted, least_doubts, least_quarrels
 from leavetaking.reasons import freed_by, least_reasons
 from leavetaking.rowbooks import books_of, late_evening, latest_book, needs_of
@@ -26,7 +32,9 @@ from leavetaking.rowbounds import is_row, row_bounds, row_conflict
 from leavetaking.rowcounts import quick_evening, row_evening_count, row_evenings
 from leavetaking.rows import next_pairs, row_count, rows
 from leavetaking.rowstories import first_difference, row_story
+from leavetaking.seen import Seen, explains, fits_seen
 from leavetaking.settling import deciders, settling
+from leavetaking.situations import is_open_table, open_evening, open_situations, rested
 from leavetaking.sparing import lean, spare_facts
 from leavetaking.standings import after_step, hanging, next_steps, present
 from leavetaking.stories import Story
@@ -34,7 +42,10 @@ from leavetaking.sureorder import coming_numbers, evening_with_number, sure_orde
 from leavetaking.takers import (
     best_cloak, evening_with, own_range, possible_cloaks, possible_guests, sure_wearers, worst_cloak,
 )
+from leavetaking.takings import takings
 from leavetaking.telling import do_tell, telling_guests
+from leavetaking.torn import Torn, book_story, torn_fits, torn_of
+from leavetaking.tornbooks import possible_books, sure_comings
 from leavetaking.verdicts import is_verdict, verdict
 from leavetaking.wearings import evening_of_wearing, possible_wearings
 
@@ -56,6 +67,14 @@ PAPER = refutation(STORY.told(("before", ("out", CLEO), ("in", ADA))))
 WIDER = Story(TURNED, TURNED_BOOK, [("spared", ADA, ADA), ("before", ("in", ADA), ("out", ADA))])
 QUARREL = STORY.told(("wore", ADA, CLEO)).told(HUNG).told(("spared", BOB, BOB))
 ROW = ((BOB, CLEO), (CLEO, ADA), (ADA, BOB))
+TAKEN = takings(TURNED, TURNED_EVENING)
+SEEN = Seen(GUESTS, TAKEN, (1, 2, 1), ((ADA, BOB),))
+TORN = Torn(TURNED, [("wore", ADA, BOB), ("before", ("in", BOB), ("in", ADA))])
+# An open case that no evening fits, and a claim that no evening that fits TORN keeps.
+OPEN_CASE = OpenCase(TURNED, TURNED_WEARING, [
+    ("before", ("out", CLEO), ("in", ADA)), ("before", ("in", ADA), ("in", CLEO)), ("chose", ADA, 1),
+])
+TORN_CLAIM = Claim.of(("before", ("out", ADA), ("in", BOB)))
 
 
 def all_evenings(house, book):
@@ -110,6 +129,66 @@ def all_row_evenings(house, book, row):
 def all_books(house, row):
     """The books of the generator in a tuple."""
     return tuple(books_of(house, row))
+
+
+def made_seen(guests, taken, depths, ties):
+    """The fields of what was seen."""
+    seen = Seen(guests, taken, depths, ties)
+    return (seen.guests, seen.takings, seen.depths, seen.ties)
+
+
+def peeled(seen):
+    """The fields of the peel."""
+    found = peel(seen)
+    return (found.order, found.left)
+
+
+def liked(seen, one, two):
+    """The fields of the liking."""
+    found = liking(seen, one, two)
+    return (found.word, found.keeping, found.breaking, found.left)
+
+
+def all_orders(seen):
+    """The orders of the generator in a tuple."""
+    return tuple(orders(seen))
+
+
+def made_torn(house, facts):
+    """The facts of the torn story."""
+    return Torn(house, facts).facts
+
+
+def torn_told(torn, fact):
+    """The facts of the torn story with one more."""
+    return torn.told(fact).facts
+
+
+def torn_from(story):
+    """The facts of the torn story that is made of the story."""
+    return torn_of(story).facts
+
+
+def made_open_case(house, wearing, facts):
+    """The fields of the open case."""
+    case = OpenCase(house, wearing, facts)
+    return (case.wearing, case.facts)
+
+
+def all_open_cases(torn, claim):
+    """What the cases of the generator have."""
+    return tuple([(case.wearing, case.facts) for case in open_cases(torn, claim)])
+
+
+def openly_judged(torn, claim):
+    """The fields of the verdict."""
+    found = open_verdict(torn, claim)
+    return (found.word, found.keeping, found.breaking, found.paper)
+
+
+def all_possible_books(torn, claim):
+    """The books of the generator in a tuple."""
+    return tuple(possible_books(torn, claim))
 
 
 def performed(story, actions):
@@ -222,6 +301,39 @@ CALLS = (
     (latest_book, TURNED, (ROW,)),
     (first_difference, TURNED, (TURNED_BOOK, GUESTS)),
     (row_story, TURNED, (TURNED_BOOK, ROW)),
+    (takings, TURNED, (TURNED_EVENING,)),
+    (fits_seen, SEEN, ((CLEO, ADA, BOB),)),
+    (peeled, SEEN, ()),
+    (is_stuck, SEEN.tied(BOB, ADA), ((BOB, ADA),)),
+    (liked, SEEN, (ADA, CLEO)),
+    (sure_likings, SEEN, ()),
+    (all_orders, SEEN, ()),
+    (order_count, SEEN, ()),
+    (place_range, SEEN, (BOB,)),
+    (order_with_place, SEEN, (BOB, 2)),
+    (least_depth, SEEN, ()),
+    (least_doubted, TURNED, ((TURNED_EVENING, TURNED_EVENING[:2] + (
+        ("out", BOB, BOB), ("in", CLEO), ("out", CLEO, ADA), ("out", ADA, CLEO),
+    )), (1, 1, 1))),
+    (ordered_house, TURNED, ((CLEO, BOB, ADA), (1, 2, 3))),
+    (made_torn, TURNED, ((HUNG, CHOSE),)),
+    (torn_told, TORN, (HUNG,)),
+    (torn_fits, TORN, (TURNED_EVENING,)),
+    (torn_from, STORY, ()),
+    (book_story, TORN, (TURNED_BOOK,)),
+    (made_open_case, TURNED, (TURNED_WEARING, (CHOSE, ("bare", ("in", BOB), 1, (ADA, BOB))))),
+    (open_bars, OPEN_CASE, ((CLEO, BOB), (BOB, ADA), ("out", CLEO))),
+    (rested, OPEN_CASE, ((CLEO, BOB), (ADA,))),
+    (open_situations, OPEN_CASE, ()),
+    (open_evening, OpenCase(TURNED, TURNED_WEARING, [CHOSE]), ()),
+    (is_open_table, OPEN_CASE, (open_situations(OPEN_CASE),)),
+    (all_open_cases, TORN, (CLAIM,)),
+    (open_first, TORN, (~CLAIM,)),
+    (open_refutation, TORN, (TORN_CLAIM,)),
+    (is_open_refutation, TORN, (TORN_CLAIM, open_refutation(TORN, TORN_CLAIM))),
+    (openly_judged, TORN, (TORN_CLAIM,)),
+    (all_possible_books, TORN, (~CLAIM,)),
+    (sure_comings, TORN, ()),
 )
 CALLS_WITHOUT_HOUSE = (
     (book_of, (TURNED_EVENING,)),
@@ -231,6 +343,8 @@ CALLS_WITHOUT_HOUSE = (
     (House, (GUESTS,)),
     (claimed, (HUNG,)),
     (combined, ((CLAIM, ~CLAIM),)),
+    (made_seen, (GUESTS, TAKEN, (1, 2, 1), ((CLEO, ADA), (BOB, ADA)))),
+    (explains, ((CLEO, BOB, ADA), TAKEN[0], 2)),
 )
 
 
@@ -350,7 +464,8 @@ class Generators(PromiseCase):
 
     def test_errors_of_cases_and_wearings(self):
         strange = Claim.of(("chose", "zoe", 1))
-        for found in (cases_of(STORY, strange), possible_wearings(STORY, strange)):
+        for found in (cases_of(STORY, strange), possible_wearings(STORY, strange), open_cases(TORN, strange),
+                      possible_books(TORN, strange)):
             with self.assertRaises(BadFact):
                 next(found)
 
@@ -366,7 +481,9 @@ class Generators(PromiseCase):
         due = [call(first, *values) for call, first, values in CALLS]
         found = possible_wearings(STORY), cases_of(STORY, ~CLAIM), evenings(TURNED, TURNED_BOOK)
         others = rows(TURNED, TURNED_BOOK), row_evenings(TURNED, TURNED_BOOK, ROW), books_of(TURNED, ROW)
+        seen = orders(SEEN), open_cases(TORN, ~CLAIM), possible_books(TORN, ~CLAIM)
         firsts = [next(generator) for generator in found]
+        seen_firsts = [next(generator) for generator in seen]
         other_firsts = [next(generator) for generator in others]
         self.assertEqual([call(first, *values) for call, first, values in reversed(CALLS)], due[::-1])
         self.assertEqual((firsts[0],) + tuple(found[0]), tuple(possible_wearings(STORY)))
@@ -376,6 +493,10 @@ class Generators(PromiseCase):
         whole = [(first,) + tuple(generator) for first, generator in zip(other_firsts, others)]
         self.assertEqual(whole, [all_rows(TURNED, TURNED_BOOK), all_row_evenings(TURNED, TURNED_BOOK, ROW),
                                  all_books(TURNED, ROW)])
+        self.assertEqual((seen_firsts[0],) + tuple(seen[0]), all_orders(SEEN))
+        rest = [(case.wearing, case.facts) for case in [seen_firsts[1]] + list(seen[1])]
+        self.assertEqual(tuple(rest), all_open_cases(TORN, ~CLAIM))
+        self.assertEqual((seen_firsts[2],) + tuple(seen[2]), all_possible_books(TORN, ~CLAIM))
 
     def test_two_generators_do_not_disturb_each_other(self):
         one, two = evenings(TURNED, TURNED_BOOK), evenings(TURNED, TURNED_BOOK)

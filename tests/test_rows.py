@@ -66,7 +66,8 @@ class Rows(PromiseCase):
         house = crowd(5)
         alike = House(house.guests, worth=[0] * 5)
         with within(30):
-            for each in (house, house.with_pegs(2), house.choosing("g3", 2), alike.with_pegs(3), alike.choosing("g4", 2)):
+            for each in (house, house.with_pegs(2), house.choosing("g3", 2), alike.with_pegs(3),
+                         alike.choosing("g4", 2)):
                 for book in (house.guests, house.guests[::-1], ("g2", "g4", "g0", "g3", "g1")):
                     self.same(row_count(each, book), len(list(rows(each, book))))
             # Whoever has come can leave in whatever has come, and all may have come before anybody leaves.
