@@ -14,13 +14,8 @@ class Seen:
         self.takings = _checked_takings(self.guests, frozen(takings))
         self.ties = _checked_ties(self.guests, frozen(ties))
         # Found once, because peeling asks for them over and over.
-        self._limits = {guest: [] for guest in self.guests}
-        self._worse = {guest: [] for guest in self.guests}
-        depth_of = {guest: depth for guest, depth in zip(self.guests, self.depths)}
-        for guest, cloak, hanging in self.takings:
-            self._limits[cloak].append((hanging, depth_of[guest]))
-        for better, worse in self.ties:
-            self._worse[better].append(worse)
+        self._limits = _limits(self.guests, self.takings, self.depths)
+        self._worse = {cloak: [worse for better, worse in self.ties if better == cloak] for cloak in self.guests}
 
     def tied(self, better, worse):
         """The same with one more tie at the end."""
@@ -53,6 +48,13 @@ def fits_seen(seen, order):
     if not all([explains(order, taking, depth_of[taking[0]]) for taking in seen.takings]):
         return False
     return all([order.index(better) < order.index(worse) for better, worse in seen.ties])
+
+
+def _limits(guests, takings, depths):
+    """For each cloak the hanging cloaks of its takings, each with the depth of the guest of the taking."""
+    depth_of = {guest: depth for guest, depth in zip(guests, depths)}
+    return {cloak: [(hanging, depth_of[guest]) for guest, taken, hanging in takings if taken == cloak]
+            for cloak in guests}
 
 
 def _checked_depths(depths):
