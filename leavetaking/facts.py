@@ -70,3 +70,12 @@ def contrary(fact):
     if fact[0] == "before":
         return ("before", fact[2], fact[1])
     return (CONTRARIES[fact[0]],) + fact[1:]
+
+
+def event_about(fact):
+    """The event that the fact is about: when it happens, it can be told whether what the fact says is so."""
+    if fact[0] == "before":
+        return fact[2]
+    if fact[0] in ("wore", "spared", "chose", "settled"):
+        return ("out", fact[1])
+    return fact[1]

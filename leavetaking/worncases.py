@@ -3,7 +3,7 @@
 from leavetaking.choices import PLAIN
 from leavetaking.common import frozen
 from leavetaking.errors import BadFact, BadWearing
-from leavetaking.facts import is_fact
+from leavetaking.facts import event_about, is_fact
 
 
 class WornCase:
@@ -41,9 +41,14 @@ class WornCase:
         return self._about.get(event, ())
 
 
+def is_wearing(house, value):
+    """Whether the sequence of strings consists of all cloaks of the house, each once."""
+    return sorted(value) == sorted(house.guests)
+
+
 def own_wearing(house, wearing):
-    """The wearing as a tuple; BadWearing if it does not consist of all cloaks, each once."""
-    if sorted(wearing) != sorted(house.guests):
+    """The wearing as a tuple; BadWearing if it is not one of the house."""
+    if not is_wearing(house, wearing):
         raise BadWearing()
     return frozen(wearing)
 
@@ -58,18 +63,9 @@ def _plain_facts(house, facts):
 
 
 def _by_event(facts):
-    """For each event that facts can bar these facts, each behind its index."""
+    """For each event that facts can bar these facts, each behind its index: plain facts bar what they are about."""
     found = {}
     for index, fact in enumerate(facts):
-        event = _barred_event(fact)
+        event = event_about(fact)
         found[event] = found.get(event, ()) + ((index, fact),)
     return found
-
-
-def _barred_event(fact):
-    """The event that the plain fact can bar."""
-    if fact[0] == "before":
-        return fact[2]
-    if fact[0] == "chose":
-        return ("out", fact[1])
-    return fact[1]

@@ -70,6 +70,39 @@ EXAMPLES = {
 >>> peel(Seen(["ada", "bob"], [("ada", "bob", ("ada", "bob"))], [1, 1], [("ada", "bob")])).left
 ('ada', 'bob')
 """,
+    "graphs": """
+>>> from leavetaking.houses import House
+>>> from leavetaking.stories import Story
+>>> from leavetaking.graphs import graph_of
+>>> graph = graph_of(Story(House(["ada"]), ["ada"]))
+>>> [graph.standings, graph.arrows, graph.counts]
+[((0, ()), (1, ()), (1, (('ada', 'ada'),))), (((('in', 'ada'), 1),), ((('out', 'ada', 'ada'), 2),), ()), (1, 1, 1)]
+""",
+    "chances": """
+>>> from leavetaking.houses import House
+>>> from leavetaking.stories import Story
+>>> from leavetaking.claims import Claim
+>>> from leavetaking.chances import odds, story_chance
+>>> story = Story(House(["ada", "bob"]), ["ada", "bob"])
+>>> [story_chance(story.told(("wore", "ada", "ada"))), odds(story.told(("before", ("in", "bob"), ("out", "ada"))), Claim.of(("wore", "ada", "ada")))]
+[(3, 4), (1, 2)]
+""",
+    "solving": """
+>>> from leavetaking.houses import House
+>>> from leavetaking.claims import Claim
+>>> from leavetaking.games import Game
+>>> from leavetaking.solving import solve
+>>> outcome = solve(Game(House(["ada"]), ["ada"], ["ada"], Claim.of(("wore", "ada", "ada"))))
+>>> [outcome.winner, outcome.table]
+['host', ((((0, ()), (None,), 'host'), None), (((1, ()), (None,), 'host'), ('out', 'ada', 'ada')))]
+""",
+    "longevenings": """
+>>> from leavetaking.houses import House
+>>> from leavetaking.customs import Custom
+>>> from leavetaking.longevenings import reached
+>>> reached(Custom(House(["ada"], pegs=1), [(0, "ada", 0)], [0]))
+((0, (0,), (0,)), (0, (1,), (1,)))
+""",
 }
 
 

@@ -6,26 +6,34 @@ from leavetaking.bars import bars
 from leavetaking.books import events_of, is_book
 from leavetaking.cases import Case
 from leavetaking.casework import cases_of, first_evening, is_refutation, refutation
+from leavetaking.chances import chance_of, odds, story_chance
 from leavetaking.choices import choices
 from leavetaking.claims import Claim, check_claim
+from leavetaking.counting import evening_by_number, evening_count, evening_number
+from leavetaking.customs import Custom, custom_moves, custom_start
 from leavetaking.depths import least_depth, least_doubted, ordered_house
 from leavetaking.desks import Desk, Supposing, perform
 from leavetaking.errors import BadBook, BadFact, BadRow, NotLet
 from leavetaking.evenings import book_of, evenings, is_evening, place_of, row_of, walk, wearing_of
 from leavetaking.facts import contrary
 from leavetaking.fitting import fits, misfit
+from leavetaking.games import Game, next_position, options, start_position
+from leavetaking.graphs import graph_of
 from leavetaking.houses import House
 from leavetaking.hurrying import hurry
 from leavetaking.inclusions import are_alike, include, is_inclusion
 from leavetaking.keeping import keeps, lots_of
 from leavetaking.levels import gone_at, is_closed, least_come, waiting
 from leavetaking.likings import liking, sure_likings
+from leavetaking.longevenings import custom_walk, is_long_evening, live, reached
 from leavetaking.meanings import holds
+from leavetaking.means import likeliest, mean_come, moment_odds, wearing_odds
 from leavetaking.opencases import OpenCase, open_bars
 from leavetaking.openverdicts import is_open_refutation, open_cases, open_first, open_refutation, open_verdict
 from leavetaking.peeling import is_stuck, peel
 from leavetaking.places import order_count, order_with_place, orders, place_range
 from leavetaking.quarrels import fewest_doubted, least_doubts, least_quarrels
+from leavetaking.quizzes import answer_rows, is_quiz_tree, quiz
 from leavetaking.reasons import freed_by, least_reasons
 from leavetaking.rowbooks import books_of, late_evening, latest_book, needs_of
 from leavetaking.rowbounds import is_row, row_bounds, row_conflict
@@ -35,9 +43,11 @@ from leavetaking.rowstories import first_difference, row_story
 from leavetaking.seen import Seen, explains, fits_seen
 from leavetaking.settling import deciders, settling
 from leavetaking.situations import is_open_table, open_evening, open_situations, rested
+from leavetaking.solving import is_foe_table, is_host_table, least_host, solve
 from leavetaking.sparing import lean, spare_facts
 from leavetaking.standings import after_step, hanging, next_steps, present
 from leavetaking.stories import Story
+from leavetaking.storysteps import story_steps
 from leavetaking.sureorder import coming_numbers, evening_with_number, sure_order
 from leavetaking.takers import (
     best_cloak, evening_with, own_range, possible_cloaks, possible_guests, sure_wearers, worst_cloak,
@@ -47,6 +57,7 @@ from leavetaking.telling import do_tell, telling_guests
 from leavetaking.torn import Torn, book_story, torn_fits, torn_of
 from leavetaking.tornbooks import possible_books, sure_comings
 from leavetaking.verdicts import is_verdict, verdict
+from leavetaking.watches import Watch
 from leavetaking.wearings import evening_of_wearing, possible_wearings
 
 from tests.helpers import (
@@ -75,6 +86,16 @@ OPEN_CASE = OpenCase(TURNED, TURNED_WEARING, [
     ("before", ("out", CLEO), ("in", ADA)), ("before", ("in", ADA), ("in", CLEO)), ("chose", ADA, 1),
 ])
 TORN_CLAIM = Claim.of(("before", ("out", ADA), ("in", BOB)))
+GAME = Game(TURNED, TURNED_BOOK, [CLEO, BOB], CLAIM)
+POSITION = ((2, ((BOB, CLEO),)), (None,) * len(CLAIM.facts), "host")
+# Questions that tell whether CLAIM is kept, and the tree of them.
+QUESTIONS = (Claim.of(("wore", BOB, CLEO)), Claim.of(("chose", CLEO, 0)), CLAIM)
+TREE = quiz(STORY, CLAIM, QUESTIONS).tree
+KINDS = TURNED.with_pegs(2)
+ARROWS = ((1, CLEO, 0), (0, ADA, 1), (0, BOB, 0), (0, ADA, 1))
+CUSTOM = Custom(KINDS, ARROWS, [0])
+MOVES = (("in", BOB, 0), ("in", BOB, 0), ("out", BOB, CLEO), ("out", BOB, CLEO))
+RULES = ((0, ("in", BOB), 1), (1, ("out", BOB, CLEO), 2))
 
 
 def all_evenings(house, book):
@@ -189,6 +210,42 @@ def openly_judged(torn, claim):
 def all_possible_books(torn, claim):
     """The books of the generator in a tuple."""
     return tuple(possible_books(torn, claim))
+
+
+def graphed(story):
+    """The fields of the graph."""
+    found = graph_of(story)
+    return (found.standings, found.arrows, found.counts)
+
+
+def made_game(house, book, host, claim):
+    """The fields of the game."""
+    game = Game(house, book, host, claim)
+    return (game.book, game.host, game.claim, start_position(game))
+
+
+def solved(game):
+    """The fields of the outcome."""
+    found = solve(game)
+    return (found.winner, found.table)
+
+
+def quizzed(story, claim, questions):
+    """The fields of the quiz."""
+    found = quiz(story, claim, questions)
+    return (found.count, found.tree, found.one, found.two)
+
+
+def made_custom(house, arrows, ends):
+    """The fields of the custom."""
+    custom = Custom(house, arrows, ends)
+    return (custom.arrows, custom.ends, custom_start(custom))
+
+
+def made_watches(rules, good, event, other, moves):
+    """The fields of watches, their next states, and whether they are kept."""
+    watches = (Watch(rules, good), ~Watch(rules, good), Watch.never(event), Watch.follows(event, other))
+    return tuple([(watch.rules, watch.good, watch.state_after(0, event), watch(moves)) for watch in watches])
 
 
 def performed(story, actions):
@@ -334,6 +391,36 @@ CALLS = (
     (openly_judged, TORN, (TORN_CLAIM,)),
     (all_possible_books, TORN, (~CLAIM,)),
     (sure_comings, TORN, ()),
+    (story_steps, STORY, (STANDING,)),
+    (graphed, STORY, ()),
+    (evening_count, STORY, (~CLAIM,)),
+    (evening_number, STORY, (TURNED_EVENING,)),
+    (evening_by_number, STORY, (0,)),
+    (chance_of, TURNED, (TURNED_BOOK, TURNED_EVENING)),
+    (story_chance, STORY, (~CLAIM,)),
+    (odds, STORY, (~CLAIM,)),
+    (wearing_odds, STORY, ()),
+    (mean_come, STORY, (CLEO,)),
+    (likeliest, STORY, ()),
+    (moment_odds, STORY, (CLEO,)),
+    (made_game, TURNED, (TURNED_BOOK, (CLEO, BOB), CLAIM)),
+    (options, GAME, (POSITION,)),
+    (next_position, GAME, (POSITION, None)),
+    (next_position, GAME, (POSITION[:2] + ("foe",), ("in", CLEO))),
+    (solved, GAME, ()),
+    (is_host_table, GAME, (solve(GAME).table,)),
+    (is_foe_table, GAME, (solve(GAME).table,)),
+    (least_host, TURNED, (TURNED_BOOK, CLAIM | Claim.of(("before", ("in", CLEO), ("out", BOB))))),
+    (answer_rows, STORY, (CLAIM, QUESTIONS)),
+    (quizzed, STORY, (CLAIM, QUESTIONS)),
+    (quizzed, STORY, (Claim.of(("before", ("in", CLEO), ("out", BOB))), QUESTIONS)),
+    (is_quiz_tree, STORY, (CLAIM, QUESTIONS, TREE, 4)),
+    (made_custom, KINDS, (ARROWS, (0, 1, 0))),
+    (custom_moves, CUSTOM, ((0, (0, 0, 1), (0, 1, 0)),)),
+    (custom_walk, CUSTOM, (MOVES[:3],)),
+    (is_long_evening, CUSTOM, (MOVES,)),
+    (reached, CUSTOM, ()),
+    (live, CUSTOM, ()),
 )
 CALLS_WITHOUT_HOUSE = (
     (book_of, (TURNED_EVENING,)),
@@ -345,6 +432,7 @@ CALLS_WITHOUT_HOUSE = (
     (combined, ((CLAIM, ~CLAIM),)),
     (made_seen, (GUESTS, TAKEN, (1, 2, 1), ((CLEO, ADA), (BOB, ADA)))),
     (explains, ((CLEO, BOB, ADA), TAKEN[0], 2)),
+    (made_watches, (RULES, (1, 2, 1), ("in", BOB), ("out", BOB, CLEO), MOVES)),
 )
 
 
