@@ -103,6 +103,18 @@ EXAMPLES = {
 >>> reached(Custom(House(["ada"], pegs=1), [(0, "ada", 0)], [0]))
 ((0, (0,), (0,)), (0, (1,), (1,)))
 """,
+    "housenotes": r"""
+>>> from leavetaking.houses import House
+>>> from leavetaking.housenotes import format_house
+>>> format_house(House(["ada", "bob"], brings=["bob", "ada"], pegs=2).choosing("bob", 3))
+'house ada bob\npegs 2\nbrings bob ada\ntaste ada 2 1\ntaste bob 2 1\ndepth bob 3\n'
+""",
+    "claimnotes": r"""
+>>> from leavetaking.claims import Claim
+>>> from leavetaking.claimnotes import format_claim
+>>> format_claim(Claim.of(("wore", "ada", "bob")) | ~Claim.of(("hung", ("out", "ada"), 1, ("ada", "bob"))))
+'([wore ada bob] | [bare out:ada 1 ada bob])\n'
+""",
 }
 
 

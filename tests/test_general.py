@@ -6,30 +6,40 @@ from leavetaking.bars import bars
 from leavetaking.books import events_of, is_book
 from leavetaking.cases import Case
 from leavetaking.casework import cases_of, first_evening, is_refutation, refutation
+from leavetaking.chains import backward, forward, is_chain, kept_nights
 from leavetaking.chances import chance_of, odds, story_chance
 from leavetaking.choices import choices
+from leavetaking.claimnotes import format_claim, parse_claim
 from leavetaking.claims import Claim, check_claim
 from leavetaking.counting import evening_by_number, evening_count, evening_number
 from leavetaking.customs import Custom, custom_moves, custom_start
+from leavetaking.customverdicts import custom_verdict, is_custom_table
 from leavetaking.depths import least_depth, least_doubted, ordered_house
 from leavetaking.desks import Desk, Supposing, perform
-from leavetaking.errors import BadBook, BadFact, BadRow, NotLet
+from leavetaking.errors import (
+    BadBook, BadFact, BadNotation, BadNumber, BadPegs, BadRow, BadStep, BadWearing, HousesDiffer, LeaveError, NoEvening, NoOrder,
+    NotLet, UnknownGuest,
+)
+from leavetaking.eveningnotes import format_evening, parse_evening
 from leavetaking.evenings import book_of, evenings, is_evening, place_of, row_of, walk, wearing_of
 from leavetaking.facts import contrary
 from leavetaking.fitting import fits, misfit
 from leavetaking.games import Game, next_position, options, start_position
 from leavetaking.graphs import graph_of
+from leavetaking.housenotes import format_house, parse_house
 from leavetaking.houses import House
 from leavetaking.hurrying import hurry
 from leavetaking.inclusions import are_alike, include, is_inclusion
 from leavetaking.keeping import keeps, lots_of
 from leavetaking.levels import gone_at, is_closed, least_come, waiting
+from leavetaking.likeness import compare_customs, is_likeness_table
 from leavetaking.likings import liking, sure_likings
 from leavetaking.longevenings import custom_walk, is_long_evening, live, reached
 from leavetaking.meanings import holds
 from leavetaking.means import likeliest, mean_come, moment_odds, wearing_odds
 from leavetaking.opencases import OpenCase, open_bars
 from leavetaking.openverdicts import is_open_refutation, open_cases, open_first, open_refutation, open_verdict
+from leavetaking.papernotes import format_paper, parse_paper
 from leavetaking.peeling import is_stuck, peel
 from leavetaking.places import order_count, order_with_place, orders, place_range
 from leavetaking.quarrels import fewest_doubted, least_doubts, least_quarrels
@@ -40,13 +50,16 @@ from leavetaking.rowbounds import is_row, row_bounds, row_conflict
 from leavetaking.rowcounts import quick_evening, row_evening_count, row_evenings
 from leavetaking.rows import next_pairs, row_count, rows
 from leavetaking.rowstories import first_difference, row_story
+from leavetaking.seasons import Season, night_story
+from leavetaking.seasonwords import first_chain, is_season_table, season_verdict, sure_after
 from leavetaking.seen import Seen, explains, fits_seen
 from leavetaking.settling import deciders, settling
 from leavetaking.situations import is_open_table, open_evening, open_situations, rested
 from leavetaking.solving import is_foe_table, is_host_table, least_host, solve
 from leavetaking.sparing import lean, spare_facts
-from leavetaking.standings import after_step, hanging, next_steps, present
+from leavetaking.standings import START, after_step, hanging, next_steps, present
 from leavetaking.stories import Story
+from leavetaking.storynotes import format_story, parse_story
 from leavetaking.storysteps import story_steps
 from leavetaking.sureorder import coming_numbers, evening_with_number, sure_order
 from leavetaking.takers import (
@@ -56,6 +69,8 @@ from leavetaking.takings import takings
 from leavetaking.telling import do_tell, telling_guests
 from leavetaking.torn import Torn, book_story, torn_fits, torn_of
 from leavetaking.tornbooks import possible_books, sure_comings
+from leavetaking.totals import greatest_total, is_price_table, is_ring
+from leavetaking.unrolling import unrolled
 from leavetaking.verdicts import is_verdict, verdict
 from leavetaking.watches import Watch
 from leavetaking.wearings import evening_of_wearing, possible_wearings
@@ -88,14 +103,22 @@ OPEN_CASE = OpenCase(TURNED, TURNED_WEARING, [
 TORN_CLAIM = Claim.of(("before", ("out", ADA), ("in", BOB)))
 GAME = Game(TURNED, TURNED_BOOK, [CLEO, BOB], CLAIM)
 POSITION = ((2, ((BOB, CLEO),)), (None,) * len(CLAIM.facts), "host")
-# Questions that tell whether CLAIM is kept, and the tree of them.
-QUESTIONS = (Claim.of(("wore", BOB, CLEO)), Claim.of(("chose", CLEO, 0)), CLAIM)
-TREE = quiz(STORY, CLAIM, QUESTIONS).tree
+# A claim that is open for STORY, questions that tell whether it is kept, and the tree of them.
+ASKED = Claim.of(("spared", BOB, ADA))
+QUESTIONS = (Claim.of(("before", ("out", CLEO), ("out", ADA))), Claim.of(("wore", CLEO, ADA)))
+TREE = quiz(STORY, ASKED, QUESTIONS).tree
 KINDS = TURNED.with_pegs(2)
 ARROWS = ((1, CLEO, 0), (0, ADA, 1), (0, BOB, 0), (0, ADA, 1))
 CUSTOM = Custom(KINDS, ARROWS, [0])
 MOVES = (("in", BOB, 0), ("in", BOB, 0), ("out", BOB, CLEO), ("out", BOB, CLEO))
 RULES = ((0, ("in", BOB), 1), (1, ("out", BOB, CLEO), 2))
+# The arrows and ends of a custom with the same words as CUSTOM.
+TWIN = (((1, BOB, 0), (0, BOB, 1), (0, ADA, 2), (1, ADA, 2), (2, CLEO, 0)), (0, 1))
+WEIGHTS = ((BOB, CLEO, -2), (ADA, BOB, 0), (CLEO, ADA, -1))
+GREAT_WEIGHTS = ((BOB, CLEO, 2),)
+NIGHTS = ((TURNED_BOOK, (("wore", ADA, BOB),)), (GUESTS, (HUNG, CHOSE)))
+SEASON = Season(TURNED, NIGHTS)
+CHAIN = first_chain(SEASON)
 
 
 def all_evenings(house, book):
@@ -246,6 +269,67 @@ def made_watches(rules, good, event, other, moves):
     """The fields of watches, their next states, and whether they are kept."""
     watches = (Watch(rules, good), ~Watch(rules, good), Watch.never(event), Watch.follows(event, other))
     return tuple([(watch.rules, watch.good, watch.state_after(0, event), watch(moves)) for watch in watches])
+
+
+def custom_judged(custom, rules, good):
+    """The fields of the verdict on the watch with these rules."""
+    found = custom_verdict(custom, Watch(rules, good))
+    return (found.word, found.keeping, found.breaking, found.table)
+
+
+def totalled(custom, weights):
+    """The fields of the total."""
+    found = greatest_total(custom, weights)
+    return (found.word, found.total, found.evening, found.prices, found.ring)
+
+
+def custom_table_judged(custom, rules, good, table):
+    """Whether the table shows that the watch with these rules is kept."""
+    return is_custom_table(custom, Watch(rules, good), table)
+
+
+def likeness_table_judged(one, arrows, ends, table):
+    """Whether the table shows that the custom with these arrows has the same words."""
+    return is_likeness_table(one, Custom(one.house, arrows, ends), table)
+
+
+def compared(one, arrows, ends):
+    """The fields of the likeness of the custom and the one with these arrows."""
+    found = compare_customs(one, Custom(one.house, arrows, ends))
+    return (found.same, found.table, found.word, found.holder)
+
+
+def made_season(house, nights):
+    """The fields of the season."""
+    season = Season(house, nights)
+    return (season.nights, tuple(season), len(season))
+
+
+def season_judged(season, night, claim):
+    """The fields of the verdict."""
+    found = season_verdict(season, night, claim)
+    return (found.word, found.keeping, found.breaking)
+
+
+def noted_story(house, book, facts):
+    """The note of the story, and the story that is read from it."""
+    note = format_story(Story(house, book, facts))
+    return (note, parse_story(note), parse_house(format_house(house)))
+
+
+def noted_evening(house, steps):
+    """The note of the evening, and the evening that is read from it."""
+    return (format_evening(steps), parse_evening(house, format_evening(steps)))
+
+
+def noted_claim(house, claim):
+    """The note of the claim, and the claim that is read from it."""
+    return (format_claim(claim), parse_claim(house, format_claim(claim)))
+
+
+def noted_paper(house, paper):
+    """The note of the paper, and the paper that is read from it."""
+    return (format_paper(paper), parse_paper(house, format_paper(paper)))
 
 
 def performed(story, actions):
@@ -411,16 +495,41 @@ CALLS = (
     (is_host_table, GAME, (solve(GAME).table,)),
     (is_foe_table, GAME, (solve(GAME).table,)),
     (least_host, TURNED, (TURNED_BOOK, CLAIM | Claim.of(("before", ("in", CLEO), ("out", BOB))))),
-    (answer_rows, STORY, (CLAIM, QUESTIONS)),
-    (quizzed, STORY, (CLAIM, QUESTIONS)),
-    (quizzed, STORY, (Claim.of(("before", ("in", CLEO), ("out", BOB))), QUESTIONS)),
-    (is_quiz_tree, STORY, (CLAIM, QUESTIONS, TREE, 4)),
+    (answer_rows, STORY, (ASKED, QUESTIONS)),
+    (quizzed, STORY, (ASKED, QUESTIONS)),
+    (quizzed, STORY, (ASKED, QUESTIONS[:1])),
+    (is_quiz_tree, STORY, (ASKED, QUESTIONS, TREE, 1)),
     (made_custom, KINDS, (ARROWS, (0, 1, 0))),
     (custom_moves, CUSTOM, ((0, (0, 0, 1), (0, 1, 0)),)),
     (custom_walk, CUSTOM, (MOVES[:3],)),
     (is_long_evening, CUSTOM, (MOVES,)),
     (reached, CUSTOM, ()),
     (live, CUSTOM, ()),
+    (custom_judged, CUSTOM, (RULES, (0, 1, 2))),
+    (custom_judged, CUSTOM, (RULES, (1, 0))),
+    (custom_table_judged, CUSTOM, (RULES, (0, 1, 2), custom_verdict(CUSTOM, Watch(RULES, [0, 1, 2])).table)),
+    (totalled, CUSTOM, (WEIGHTS,)),
+    (totalled, CUSTOM, (GREAT_WEIGHTS,)),
+    (is_price_table, CUSTOM, (WEIGHTS, greatest_total(CUSTOM, WEIGHTS).prices, 0)),
+    (is_ring, CUSTOM, (GREAT_WEIGHTS, greatest_total(CUSTOM, GREAT_WEIGHTS).ring)),
+    (compared, CUSTOM, TWIN),
+    (compared, CUSTOM, (ARROWS, (0, 1))),
+    (likeness_table_judged, CUSTOM, TWIN + (compare_customs(CUSTOM, Custom(KINDS, *TWIN)).table,)),
+    (unrolled, CUSTOM, (MOVES,)),
+    (made_season, TURNED, (NIGHTS,)),
+    (night_story, SEASON, (1, TURNED_WEARING)),
+    (is_chain, SEASON, (CHAIN,)),
+    (forward, SEASON, ()),
+    (kept_nights, SEASON, ()),
+    (backward, SEASON, (TURNED_WEARING,)),
+    (first_chain, SEASON, (((1, ~CLAIM), (0, ~CLAIM), (1, CLAIM | Claim.of(CHOSE))),)),
+    (season_judged, SEASON, (1, CLAIM)),
+    (sure_after, SEASON, (0,)),
+    (is_season_table, SEASON, (forward(SEASON),)),
+    (noted_story, TURNED, (TURNED_BOOK, (HUNG, CHOSE, ("ahead", ("in", ADA), 3, (("out", ADA), ("in", BOB)))))),
+    (noted_evening, TURNED, (TURNED_EVENING,)),
+    (noted_claim, TURNED, (CLAIM,)),
+    (noted_paper, TURNED, (PAPER,)),
 )
 CALLS_WITHOUT_HOUSE = (
     (book_of, (TURNED_EVENING,)),
@@ -531,6 +640,111 @@ class Errors(PromiseCase):
         self.refused(BadFact, story.told, ("chose", ADA, -1))
         self.assertEqual(story, Story(TURNED, TURNED_BOOK, [HUNG]))
         self.assertIs(story.house == TURNED, True)
+
+
+WRONG_BOOK = (BOB, BOB, ADA)
+WRONG_FACT = ("wore", "zoe", ADA)
+WRONG_CLAIM = CLAIM & Claim.of(WRONG_FACT)
+NO_EVENING = STORY.told(("wore", ADA, ADA))
+NO_ORDER = SEEN.tied(BOB, ADA)
+NO_CHAIN = Season(TURNED, [(GUESTS, [("chose", ADA, 0)])])
+# Calls in which several things are wrong, with the error that is due first.
+ORDER = (
+    (BadBook, hanging, (TURNED, WRONG_BOOK, START)),
+    (BadBook, present, (TURNED, WRONG_BOOK, START)),
+    (BadBook, next_steps, (TURNED, WRONG_BOOK, START)),
+    (BadBook, after_step, (TURNED, WRONG_BOOK, START, ("in", "zoe"))),
+    (BadBook, walk, (TURNED, WRONG_BOOK, [("in", "zoe")])),
+    (BadBook, is_evening, (TURNED, WRONG_BOOK, [("in", "zoe")])),
+    (BadBook, all_evenings, (TURNED, WRONG_BOOK)),
+    (BadBook, Story, (TURNED, WRONG_BOOK, [WRONG_FACT])),
+    (BadBook, Case, (TURNED, WRONG_BOOK, WRONG_BOOK, [WRONG_FACT])),
+    (BadWearing, Case, (TURNED, TURNED_BOOK, WRONG_BOOK, [WRONG_FACT])),
+    (BadWearing, OpenCase, (TURNED, WRONG_BOOK, [WRONG_FACT])),
+    (BadBook, row_bounds, (TURNED, WRONG_BOOK, ROW[:1])),
+    (BadBook, row_conflict, (TURNED, WRONG_BOOK, ROW[:1])),
+    (BadBook, all_row_evenings, (TURNED, WRONG_BOOK, ROW[:1])),
+    (BadBook, row_evening_count, (TURNED, WRONG_BOOK, ROW[:1])),
+    (BadBook, quick_evening, (TURNED, WRONG_BOOK, ROW[:1])),
+    (BadBook, all_rows, (TURNED, WRONG_BOOK)),
+    (BadBook, row_count, (TURNED, WRONG_BOOK)),
+    (BadBook, next_pairs, (TURNED, WRONG_BOOK, ROW * 2)),
+    (BadBook, row_story, (TURNED, WRONG_BOOK, ROW[:1])),
+    (BadBook, first_difference, (TURNED, TURNED_BOOK, WRONG_BOOK)),
+    (BadBook, book_story, (TORN, WRONG_BOOK)),
+    (BadBook, chance_of, (TURNED, WRONG_BOOK, TURNED_EVENING)),
+    (BadBook, Game, (TURNED, WRONG_BOOK, ["zoe"], WRONG_CLAIM)),
+    (UnknownGuest, Game, (TURNED, TURNED_BOOK, ["zoe"], WRONG_CLAIM)),
+    (BadFact, Game, (TURNED, TURNED_BOOK, [], WRONG_CLAIM)),
+    (BadBook, least_host, (TURNED, WRONG_BOOK, WRONG_CLAIM)),
+    (BadBook, Season, (TURNED, [(TURNED_BOOK, [WRONG_FACT]), (WRONG_BOOK, [])])),
+    (BadWearing, evening_of_wearing, (NO_EVENING, WRONG_BOOK, WRONG_CLAIM)),
+    (BadFact, evening_of_wearing, (NO_EVENING, TURNED_WEARING, WRONG_CLAIM)),
+    (BadFact, settling, (NO_EVENING, WRONG_CLAIM, [("chose", ADA, True)])),
+    (BadFact, deciders, (NO_EVENING, WRONG_CLAIM, [])),
+    (BadFact, first_evening, (NO_EVENING, WRONG_CLAIM)),
+    (BadFact, refutation, (NO_EVENING, WRONG_CLAIM)),
+    (BadFact, is_refutation, (NO_EVENING, WRONG_CLAIM, ())),
+    (BadFact, verdict, (NO_EVENING, WRONG_CLAIM)),
+    (BadFact, is_verdict, (NO_EVENING, WRONG_CLAIM, "nothing", (None, ()))),
+    (BadFact, keeps, (TURNED, TURNED_EVENING, WRONG_CLAIM)),
+    (BadFact, least_reasons, (NO_EVENING, WRONG_CLAIM)),
+    (BadFact, freed_by, (NO_EVENING, WRONG_CLAIM)),
+    (BadFact, open_first, (TORN, WRONG_CLAIM)),
+    (BadFact, open_refutation, (TORN, WRONG_CLAIM)),
+    (BadFact, is_open_refutation, (TORN, WRONG_CLAIM, ())),
+    (BadFact, open_verdict, (TORN, WRONG_CLAIM)),
+    (BadFact, evening_count, (NO_EVENING, WRONG_CLAIM)),
+    (BadFact, story_chance, (NO_EVENING, WRONG_CLAIM)),
+    (BadFact, odds, (NO_EVENING, WRONG_CLAIM)),
+    (BadFact, answer_rows, (NO_EVENING, WRONG_CLAIM, [])),
+    (BadFact, quiz, (NO_EVENING, WRONG_CLAIM, [])),
+    (BadFact, is_quiz_tree, (NO_EVENING, CLAIM, [WRONG_CLAIM], None, 0)),
+    (BadFact, first_chain, (NO_CHAIN, [(0, WRONG_CLAIM)])),
+    (BadFact, season_verdict, (NO_CHAIN, 0, WRONG_CLAIM)),
+    (UnknownGuest, coming_numbers, (NO_EVENING, "zoe")),
+    (UnknownGuest, evening_with_number, (NO_EVENING, "zoe", 1)),
+    (UnknownGuest, possible_cloaks, (NO_EVENING, "zoe")),
+    (UnknownGuest, possible_guests, (NO_EVENING, "zoe")),
+    (UnknownGuest, evening_with, (NO_EVENING, ADA, "zoe")),
+    (UnknownGuest, best_cloak, (NO_EVENING, "zoe")),
+    (UnknownGuest, worst_cloak, (NO_EVENING, "zoe")),
+    (UnknownGuest, do_tell, (NO_EVENING, [ADA, "zoe"])),
+    (UnknownGuest, mean_come, (NO_EVENING, "zoe")),
+    (UnknownGuest, moment_odds, (NO_EVENING, "zoe")),
+    (UnknownGuest, place_range, (NO_ORDER, "zoe")),
+    (UnknownGuest, order_with_place, (NO_ORDER, "zoe", 0)),
+    (NoOrder, place_range, (NO_ORDER, ADA)),
+    (NoOrder, sure_likings, (NO_ORDER,)),
+    (NoEvening, coming_numbers, (NO_EVENING, ADA)),
+    (NoEvening, sure_order, (NO_EVENING,)),
+    (NoEvening, sure_wearers, (NO_EVENING,)),
+    (NoEvening, best_cloak, (NO_EVENING, ADA)),
+    (NoEvening, own_range, (NO_EVENING,)),
+    (NoEvening, sure_comings, (TORN.told(("wore", ADA, ADA)),)),
+    (NoEvening, sure_after, (NO_CHAIN, 0)),
+    (BadNumber, evening_by_number, (NO_EVENING, 0)),
+    (BadWearing, backward, (NO_CHAIN, WRONG_BOOK)),
+    (BadPegs, Custom, (TURNED, [(0, "zoe", 0)], [])),
+    (BadStep, unrolled, (CUSTOM, MOVES[:1] + (("in", "zoe", 0),))),
+    (NoEvening, unrolled, (CUSTOM, MOVES[:1])),
+    (HousesDiffer, compare_customs, (CUSTOM, Custom(House([ADA], pegs=1), [], []))),
+    (HousesDiffer, is_likeness_table, (CUSTOM, Custom(House([ADA], pegs=1), [], []), ())),
+    (BadNotation, parse_house, ("house ada ada",)),
+    (BadNotation, parse_story, ("house ada\nbook zoe\n",)),
+    (BadNotation, parse_evening, (TURNED, "out zoe ada\n")),
+    (BadNotation, parse_claim, (TURNED, "[wore zoe ada]\n")),
+    (BadNotation, parse_paper, (TURNED, "wearing zoe\n")),
+)
+
+
+class Order(PromiseCase):
+    def test_the_error_that_is_due_first(self):
+        for error, call, values in ORDER:
+            with self.subTest(call.__name__):
+                self.assertIsInstance(self.refused(error, call, *values), LeaveError)
+                # The refused call changed nothing, and the same question has the same answer.
+                self.refused(error, call, *values)
 
 
 class Generators(PromiseCase):
