@@ -18,7 +18,8 @@ def kept_sum(story, claim, weight_at):
     layer = {(START, ruling.rest(marks)): (marks, (1, 1))}
     for _ in range(2 * len(story.house)):
         layer = _next_layer(story, ruling, layer, weight_at)
-    return total([weight for (_, rest), (_, weight) in layer.items() if rest is True])
+    # In the end all facts are settled, and where the claim is broken, nothing was carried on.
+    return total([weight for _, weight in layer.values()])
 
 
 def even_weight(story, standing):

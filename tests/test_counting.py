@@ -127,5 +127,10 @@ class Numbers(PromiseCase):
             self.same(self.refused(BadNumber, evening_by_number, STORY, number).number, number)
         for number in (-1, 0, 1, GREAT):
             self.same(self.refused(BadNumber, evening_by_number, NEVER, number).number, number)
+        # A story that lets not even the first step be made.
+        barred = STORY.told(("before", ("out", ADA), ("in", BOB)))
+        self.same(self.refused(BadNumber, evening_by_number, barred, 0).number, 0)
+        self.assertIsNone(evening_number(barred, fitting(STORY)[0]))
+        self.same([evening_count(barred), evening_count(barred, Claim.of(("wore", ADA, ADA)))], [0, 0])
         self.same(evening_by_number(Story(House([ADA]), [ADA]), 0), (("in", ADA), ("out", ADA, ADA)))
         self.same(self.refused(BadNumber, evening_by_number, Story(House([ADA]), [ADA]), 1).number, 1)

@@ -152,6 +152,23 @@ class Tables(PromiseCase):
         self.assertGreater(verdicts.count(False), 20)
         self.assertGreater(verdicts.count(True), 20)
 
+    def test_tables_with_all_positions(self):
+        # Nothing is missing in them: whoever loses by them loses at the end of a play.
+        draw = Random(86)
+        verdicts = []
+        for game in some_games(3):
+            for side, judge in (("host", is_host_table), ("foe", is_foe_table)):
+                table, plays = {}, [PlainPlay(game, (), "host")]
+                for play in plays:
+                    choices = play.choices()
+                    if choices and play.turn == side:
+                        table.setdefault(play.position(), draw.choice(choices))
+                        choices = [table[play.position()]]
+                    plays.extend([play.after(choice) for choice in choices])
+                verdicts.append(plain_wins(game, list(table.items()), side))
+                self.assertIs(judge(game, list(table.items())), verdicts[-1])
+        self.assertGreater(min(verdicts.count(True), verdicts.count(False)), 10)
+
     def test_other_tables_that_win(self):
         # The last option that leads to a won position does as well as the first one.
         for game in some_games(2):
