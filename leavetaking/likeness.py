@@ -30,11 +30,13 @@ class LotGraph:
         """The lot of the empty row."""
         return self._with_comings([0] if self._ends else [])
 
-    def lot_after(self, lot, pair):
-        """The lot after this lot and the pair."""
-        came = self._with_comings(lot)
-        return self._with_comings([after for at in came for leaving, after in self._leavings.get(at, ())
-                                   if leaving == pair])
+    def lots_after(self, lot):
+        """For each pair with which the lot can be left, the lot after this lot and the pair."""
+        found = {}
+        for at in self._with_comings(lot):
+            for pair, after in self._leavings.get(at, ()):
+                found.setdefault(pair, []).append(after)
+        return {pair: self._with_comings(afters) for pair, afters in found.items()}
 
     def may_end(self, lot):
         """Whether the lot contains a condition that ends."""
@@ -68,8 +70,7 @@ def compare_customs(one, two):
         ends = [graph.may_end(lot) for graph, lot in zip(graphs, lots)]
         if ends[0] != ends[1]:
             return Likeness(False, (), found[lots], ends.index(True))
-        for pair in _pairs(one.house):
-            after = _after(graphs, lots, pair)
+        for pair, after in _afters(one.house, graphs, lots):
             if after not in found:
                 found[after] = found[lots] + (pair,)
                 queue.append(after)
@@ -92,14 +93,11 @@ def _check_comparable(one, two):
         raise HousesDiffer()
 
 
-def _pairs(house):
-    """All pairs of a kind that leaves and a kind of cloak, in order."""
-    return [(kind, cloak) for kind in house.guests for cloak in house.guests]
-
-
-def _after(graphs, lots, pair):
-    """The two lots after these lots and the pair."""
-    return tuple([graph.lot_after(lot, pair) for graph, lot in zip(graphs, lots)])
+def _afters(house, graphs, lots):
+    """All pairs of a kind that leaves and a kind of cloak, in order, each with the two lots after these lots and it."""
+    tables = [graph.lots_after(lot) for graph, lot in zip(graphs, lots)]
+    return [((kind, cloak), tuple([table.get((kind, cloak), ()) for table in tables]))
+            for kind in house.guests for cloak in house.guests]
 
 
 def _is_told(lots, told):
@@ -112,4 +110,4 @@ def _is_followed(house, graphs, lots, told):
     ends = [graph.may_end(lot) for graph, lot in zip(graphs, lots)]
     if ends[0] != ends[1]:
         return False
-    return all([_is_told(_after(graphs, lots, pair), told) for pair in _pairs(house)])
+    return all([_is_told(after, told) for _, after in _afters(house, graphs, lots)])
