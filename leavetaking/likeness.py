@@ -32,10 +32,10 @@ class LotGraph:
 
     def lots_after(self, lot):
         """For each pair with which the lot can be left, the lot after this lot and the pair."""
+        leavings = [leaving for at in self._with_comings(lot) for leaving in self._leavings.get(at, ())]
         found = {}
-        for at in self._with_comings(lot):
-            for pair, after in self._leavings.get(at, ()):
-                found.setdefault(pair, []).append(after)
+        for pair, after in leavings:
+            found.setdefault(pair, []).append(after)
         return {pair: self._with_comings(afters) for pair, afters in found.items()}
 
     def may_end(self, lot):
